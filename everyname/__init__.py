@@ -1,0 +1,1 @@
+"""Everyname: set programs over any number of names."""

@@ -1,0 +1,210 @@
+"""The mechanical rules of the Python subset that the files of the package are written in.
+
+Each test names its rules. Rules that need a reader's judgement are not looked at here; some that
+are looked at are kept more strictly than they are written, because that is easier to see.
+"""
+
+import ast
+import pathlib
+import re
+import unittest
+
+PACKAGE = pathlib.Path(__file__).resolve().parent.parent / "everyname"
+FILES = sorted(PACKAGE.rglob("*.py"))
+
+BUILTINS = set("""len range enumerate zip min max sum abs sorted reversed int str bool bytes list tuple dict set
+    frozenset isinstance ord repr any all divmod pow getattr hasattr setattr iter next map super property staticmethod
+    classmethod Exception ValueError TypeError KeyError IndexError LookupError ZeroDivisionError ArithmeticError
+    OverflowError RuntimeError NotImplementedError AttributeError StopIteration NotImplemented""".split())
+LIBRARY = {"heapq": {"heappush", "heappop", "heapify", "heapreplace", "heappushpop"},
+           "math": {"gcd", "lcm", "isqrt", "comb", "perm", "factorial"},
+           "collections": {"defaultdict"}, "__future__": {"annotations"},
+           "itertools": {"product", "combinations", "permutations", "chain", "accumulate", "pairwise", "islice",
+                         "zip_longest"}}
+BINARY = set("""lt le gt ge ne eq add sub mul floordiv mod pow and or xor lshift rshift radd rsub rmul rfloordiv rmod
+    rand ror rxor rlshift rrshift iadd isub imul ifloordiv imod ipow iand ior ixor ilshift irshift""".split())
+UNARY = set("neg pos invert abs bool repr str len enter iter".split())
+NOWHERE = {"register", "mro", "elements", "open", "input", "law", "version_info", "with_traceback", "add_note"}
+WORDS = set("""type typing typing_extensions enum Enum IntEnum StrEnum Flag IntFlag Generic Protocol ABC ABCMeta
+    namedtuple NamedTuple TypedDict TYPE_CHECKING abstractmethod dataclass overload contextmanager""".split())
+
+
+def nodes(kind):
+    """Every node of a kind, with the file that it stands in."""
+    for file in FILES:
+        for node in ast.walk(ast.parse(file.read_text())):
+            if isinstance(node, kind):
+                yield file, node
+
+
+def docstrings(tree):
+    """The nodes of all docstrings of a file."""
+    found = []
+    for node in ast.walk(tree):
+        if isinstance(node, (ast.Module, ast.ClassDef, ast.FunctionDef)) and ast.get_docstring(node, clean=False):
+            found.append(node.body[0].value)
+    return found
+
+
+def bound_names(tree):
+    """All names that a file binds, but for attributes."""
+    for node in ast.walk(tree):
+        if isinstance(node, ast.Name) and isinstance(node.ctx, ast.Store):
+            yield node.id
+        elif isinstance(node, ast.arg):
+            yield node.arg
+        elif isinstance(node, (ast.FunctionDef, ast.ClassDef)):
+            yield node.name
+        elif isinstance(node, ast.alias):
+            yield node.asname or node.name
+
+
+class LanguageTest(unittest.TestCase):
+    def assertNone(self, found):
+        self.assertEqual([(file.name, getattr(node, "lineno", node)) for file, node in found], [])
+
+    def test_files(self):
+        """L1, L10, L14"""
+        for path in PACKAGE.rglob("*"):
+            if "__pycache__" in path.parts:
+                continue
+            self.assertTrue(path.is_dir() or re.fullmatch(r"[a-z_][a-z0-9_]*\.py", path.name), path)
+            self.assertFalse(re.match(r"test|law_|site|conftest|usercustomize", path.name), path)
+        for file in FILES:
+            text = file.read_text()
+            self.assertTrue(all(" " <= mark <= "~" or mark == "\n" for mark in text), file)
+            self.assertLessEqual(len(text.splitlines()), 399, file)
+            self.assertLessEqual(max(map(len, text.splitlines())), 120, file)
+        for file, node in nodes(ast.FunctionDef):
+            self.assertLessEqual(node.end_lineno - node.lineno + 1, 40, (file, node.name))
+
+    def test_imports(self):
+        """L2, L16"""
+        self.assertNone(nodes(ast.Import))
+        own = {file.stem for file in FILES}
+        for file, node in nodes(ast.ImportFrom):
+            self.assertEqual(node.level, 0)
+            for alias in node.names:
+                if node.module in LIBRARY:
+                    self.assertIn(alias.name, LIBRARY[node.module], file)
+                    self.assertIsNone(alias.asname)
+                else:
+                    package, module = node.module.split(".")
+                    self.assertEqual(package, "everyname")
+                    self.assertIn(module, own)
+                    self.assertIn(alias.name, set(bound_names(ast.parse((PACKAGE / f"{module}.py").read_text()))))
+
+    def test_no_circular_imports(self):
+        """L16"""
+        needs = {file.stem: set() for file in FILES}
+        for file, node in nodes(ast.ImportFrom):
+            if node.module.startswith("everyname."):
+                needs[file.stem].add(node.module.split(".")[1])
+        while needs:
+            free = [name for name in needs if not needs[name] & set(needs)]
+            self.assertTrue(free, needs)
+            for name in free:
+                del needs[name]
+
+    def test_module_level(self):
+        """L3, L15"""
+        for file in FILES:
+            tree = ast.parse(file.read_text())
+            plain = (ast.ImportFrom, ast.FunctionDef, ast.ClassDef, ast.Assign)
+            for node in tree.body[1:] if ast.get_docstring(tree) else tree.body:
+                self.assertIsInstance(node, plain, (file, node.lineno))
+            bound = [name for node in tree.body for name in (
+                [alias.name for alias in node.names] if isinstance(node, ast.ImportFrom) else
+                [node.name] if isinstance(node, (ast.FunctionDef, ast.ClassDef)) else
+                [target.id for target in node.targets] if isinstance(node, ast.Assign) else [])]
+            self.assertEqual(len(bound), len(set(bound)), file)
+            inner = {name for node in ast.walk(tree) if isinstance(node, ast.FunctionDef)
+                     for part in node.body + [node.args] for name in bound_names(part)}
+            used = {node.name for node in tree.body if isinstance(node, ast.ClassDef)}
+            used |= {alias.name for node in tree.body if isinstance(node, ast.ImportFrom) for alias in node.names}
+            self.assertEqual(inner & used, set(), file)
+
+    def test_functions_and_classes(self):
+        """L4, L5, L28"""
+        for file, node in nodes(ast.FunctionDef):
+            for decorator in node.decorator_list:
+                text = ast.unparse(decorator)
+                self.assertTrue(text in ("property", "staticmethod", "classmethod") or text.endswith(".setter"))
+            if not node.name.startswith("__"):
+                continue
+            word = node.name.strip("_")
+            names = [arg.arg for arg in node.args.args]
+            if word in BINARY:
+                self.assertEqual(names, ["self", "other"], (file, node.lineno))
+            elif word in UNARY:
+                self.assertEqual(names, ["self"], (file, node.lineno))
+            elif word == "contains":
+                self.assertEqual(names, ["self", "x"], (file, node.lineno))
+            elif word == "getitem":
+                self.assertEqual(names, ["self", "at"], (file, node.lineno))
+            elif word == "setitem":
+                self.assertEqual(names, ["self", "at", "worth"], (file, node.lineno))
+            else:
+                self.assertIn(word, ("init", "call", "exit"), (file, node.lineno))
+        for file, node in nodes(ast.ClassDef):
+            self.assertEqual(node.decorator_list, [])
+
+    def test_statements_and_values(self):
+        """L6, L7, L19, L20, L24, L27"""
+        self.assertNone(nodes((ast.Global, ast.AsyncFunctionDef, ast.Await, ast.GeneratorExp, ast.Div)))
+        self.assertNone((file, node) for file, node in nodes(ast.Constant)
+                        if isinstance(node.value, (float, complex)) or isinstance(node.value, str) and "%" in node.value)
+        self.assertNone((file, node) for file, node in nodes(ast.Compare)
+                        for sign, right in zip(node.ops, node.comparators)
+                        if isinstance(sign, (ast.Is, ast.IsNot)) and not isinstance(right, ast.Constant))
+        self.assertNone((file, node) for file, node in nodes(ast.AugAssign)
+                        if not isinstance(node.value, ast.Constant) or not isinstance(node.op, ast.Add))
+        self.assertNone((file, node) for file, node in nodes(ast.BinOp)
+                        if isinstance(node.op, ast.Pow) and not isinstance(node.right, ast.Constant))
+        self.assertNone((file, node) for file, node in nodes(ast.ExceptHandler) if node.type is None)
+
+    def test_what_is_ordered(self):
+        """L5 Operators: beside order methods, sorted, min and max take what is plainly numbers or strings."""
+        def plain(node):
+            if isinstance(node, ast.ListComp):
+                return plain(node.elt)
+            if isinstance(node, ast.Constant):
+                return True
+            return isinstance(node, ast.Call) and ast.unparse(node.func) in ("int", "str", "len", "ord", "repr", "range")
+        for file, node in nodes(ast.Call):
+            if ast.unparse(node.func) in ("sorted", "min", "max"):
+                self.assertTrue(any(map(plain, node.args)), (file, node.lineno))
+            self.assertNotEqual(ast.unparse(node.func).split(".")[-1], "sort", (file, node.lineno))
+
+    def test_names(self):
+        """L8, L12, L15, L17"""
+        python_names = set(dir(__builtins__)) if not isinstance(__builtins__, dict) else set(__builtins__)
+        for file in FILES:
+            tree = ast.parse(file.read_text())
+            bound = set(bound_names(tree))
+            methods = {part.name for node in ast.walk(tree) if isinstance(node, ast.ClassDef)
+                       for part in node.body if isinstance(part, ast.FunctionDef)}
+            self.assertEqual((bound - methods) & python_names, set(), file)
+            loaded = {node.id for node in ast.walk(tree) if isinstance(node, ast.Name)}
+            self.assertEqual(loaded - bound - BUILTINS - {"property"}, set(), file)
+            attributes = {node.attr for node in ast.walk(tree) if isinstance(node, ast.Attribute)}
+            self.assertEqual((bound | attributes) & NOWHERE, set(), file)
+            for name in bound - methods | attributes:
+                self.assertRegex(name, r"\A(_|_?[A-Za-z][A-Za-z0-9_]*|__all__|__version__)\Z", file)
+
+    def test_words(self):
+        """L17: these words stand in comments and docstrings alone."""
+        for file in FILES:
+            tree = ast.parse(file.read_text())
+            ignored = set(map(id, docstrings(tree)))
+            words = set(bound_names(tree))
+            for node in ast.walk(tree):
+                if isinstance(node, ast.Constant) and isinstance(node.value, str) and id(node) not in ignored:
+                    words |= set(re.findall(r"\w+", node.value))
+                elif isinstance(node, (ast.Name, ast.Attribute)):
+                    words.add(node.id if isinstance(node, ast.Name) else node.attr)
+            self.assertEqual(words & WORDS, set(), file)
+
+
+if __name__ == "__main__":
+    unittest.main()
