@@ -191,3 +191,12 @@ def row_signs(row, start):
         # the row itself does, and the search is short from there.
         parts = [part for low, high, slope in parts for part in slope_signs(counts[k:], low, high, slope)]
     return joined_signs(parts)
+
+
+def signs_between(row, low, high):
+    """Return the triples (low, high, sign) for all n from low to high; high is None if there is no end."""
+    found = []
+    for first, last, sign in row_signs(row, low):
+        if high is None or first <= high:
+            found.append((first, high if last is None or (high is not None and last > high) else last, sign))
+    return found

@@ -4,7 +4,8 @@ from math import factorial
 
 from everyname.checks import check_from, check_whole, check_wholes, is_whole
 from everyname.errors import BadValue, NotExact
-from everyname.rows import row_ahead, row_product, row_signs, row_sum, row_through, row_times, row_value, trimmed
+from everyname.rows import (row_ahead, row_product, row_signs, row_sum, row_through, row_times, row_value,
+                             signs_between, trimmed)
 
 
 def row_of(value):
@@ -149,10 +150,7 @@ class Size:
         check_from(start, 0)
         if end is not None:
             check_from(end, start)
-        found = row_signs(self.row, start)
-        if end is None:
-            return found
-        return [(low, end if high is None or high > end else high, sign) for low, high, sign in found if low <= end]
+        return signs_between(self.row, start, end)
 
     def least_from(self, value):
         """Return the least n from which on no value is below value, or None."""

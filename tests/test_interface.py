@@ -4,40 +4,73 @@ import importlib
 import inspect
 import unittest
 
+OTHER = "(self, other)"
 CLASSES = {
     ("everyname.sizes", "Size"): {
         "__init__": "(self, row=())", "through": "(start, values)", "falling": "(many, start=0)",
         "degree": None, "__call__": "(self, n)", "signs": "(self, start=0, end=None)",
         "least_from": "(self, value)", "__neg__": "(self)",
-        **{f"__{word}__": "(self, other)" for word in (
+        **{f"__{word}__": OTHER for word in (
             "add", "radd", "sub", "rsub", "mul", "rmul", "pow", "rshift", "lshift", "floordiv",
             "eq", "lt", "le", "gt", "ge")}},
     ("everyname.spans", "Span"): {
         "__init__": "(self, stretches=())", "single": "(n)", "since": "(n)", "until": "(n)",
         "__invert__": "(self)", "__bool__": "(self)", "__contains__": "(self, x)", "__str__": "(self)",
         "least": "(self)", "greatest": "(self)", "many": "(self)", "after": "(self, n)",
-        **{f"__{word}__": "(self, other)" for word in (
+        **{f"__{word}__": OTHER for word in (
             "or", "and", "sub", "xor", "ior", "iand", "isub", "rshift", "lshift", "eq", "lt", "le", "gt", "ge")}},
+    ("everyname.tallies", "Tally"): {
+        "__init__": "(self, pieces)", "joined": "(parts, rest=0)", "settles": None, "last": None, "__call__": "(self, n)",
+        "__neg__": "(self)", "__abs__": "(self)", "lowest": "(self)", "highest": "(self)",
+        **{f"__{word}__": OTHER for word in (
+            "add", "radd", "sub", "rsub", "mul", "rmul", "eq", "lt", "le", "gt", "ge")}},
+    ("everyname.programs", "Program"): {
+        "__init__": "(self, known=(), statements=())", "read": "(text)", "text": None, "with_known": "(self, word)",
+        "then": OTHER, "__add__": OTHER, "__eq__": OTHER},
+    ("everyname.runs", "Run"): {
+        "count": "(self, variable)", "holds": "(self, test)", "value": "(self, variable, *, most=200)",
+        "part": "(self, a, b, *, most=200)"},
 }
 KINDS = {"through": classmethod, "falling": staticmethod, "single": staticmethod, "since": staticmethod,
-         "until": staticmethod, "degree": property}
+         "until": staticmethod, "joined": classmethod, "read": classmethod,
+         **{name: property for name in ("degree", "settles", "last", "text")}}
+FUNCTIONS = {
+    "everyname.tallies": {"where": "(a, sign, b)"},
+    "everyname.values": {"value_text": "(value)", "same_value": "(a, b)", "others_in": "(value)", "members_of": "(value)",
+                         "renumbered": "(value, numbers)"},
+    "everyname.runs": {"run": "(program, n, *, most=60)"},
+}
+
+
+def made(module, name):
+    return getattr(importlib.import_module(module), name)
 
 
 class InterfaceTest(unittest.TestCase):
     def test_classes_define_their_methods_themselves(self):
         for (module, name), methods in CLASSES.items():
-            made = getattr(importlib.import_module(module), name)
-            self.assertEqual(made.__module__, module)
+            kind = made(module, name)
+            self.assertEqual(kind.__module__, module)
             for method, arguments in methods.items():
-                self.assertIn(method, vars(made), name)
-                self.assertIs(type(vars(made)[method]), KINDS.get(method, type(lambda: 0)), method)
+                self.assertIn(method, vars(kind), name)
+                self.assertIs(type(vars(kind)[method]), KINDS.get(method, type(lambda: 0)), method)
                 if arguments is not None:
-                    self.assertEqual(str(inspect.signature(getattr(made, method))), arguments, method)
+                    self.assertEqual(str(inspect.signature(getattr(kind, method))), arguments, method)
+
+    def test_functions_are_defined_in_their_files(self):
+        for module, functions in FUNCTIONS.items():
+            for name, arguments in functions.items():
+                self.assertEqual(made(module, name).__module__, module)
+                self.assertEqual(str(inspect.signature(made(module, name))), arguments, name)
 
     def test_attributes_are_set_when_an_object_is_made(self):
-        for (module, name), attribute in {("everyname.sizes", "Size"): "row", ("everyname.spans", "Span"): "stretches"}.items():
-            made = getattr(importlib.import_module(module), name)
-            self.assertEqual(vars(made()), {attribute: ()})
+        program = made("everyname.programs", "Program")()
+        for thing, attributes in (
+                (made("everyname.sizes", "Size")(), {"row"}), (made("everyname.spans", "Span")(), {"stretches"}),
+                (made("everyname.tallies", "Tally")([(0, 1)]), {"pieces"}), (program, {"known", "statements", "variables"}),
+                (made("everyname.runs", "run")(program, 3),
+                 {"program", "n", "most", "end", "entry", "length", "rounds", "course"})):
+            self.assertEqual({name for name in vars(thing) if not name.startswith("_")}, attributes)
 
 
 if __name__ == "__main__":

@@ -59,6 +59,43 @@ def bound_names(tree):
             yield node.asname or node.name
 
 
+CHANGING = set("""append clear extend insert pop remove reverse setdefault update sort add discard""".split())
+IN_PLACE = {f"__{word}__" for word in BINARY if word[0] == "i"} | {"__setitem__", "__init__"}
+
+
+def root(node):
+    """The name that an item, an attribute or a call of a method begins with."""
+    while isinstance(node, (ast.Subscript, ast.Attribute, ast.Call)):
+        node = node.func if isinstance(node, ast.Call) else node.value
+    return node.id if isinstance(node, ast.Name) else None
+
+
+def changed_names(function):
+    """The names of what a function changes, with the lines where it does."""
+    for node in ast.walk(function):
+        targets = []
+        if isinstance(node, ast.Assign):
+            targets = [part for target in node.targets for part in ast.walk(target)]
+        elif isinstance(node, ast.AugAssign):
+            targets = [node.target]
+        elif isinstance(node, ast.Delete):
+            targets = node.targets
+        for target in targets:
+            if isinstance(target, (ast.Subscript, ast.Attribute)) and not isinstance(target.ctx, ast.Load):
+                yield root(target), node.lineno
+        if isinstance(node, ast.Call) and isinstance(node.func, ast.Attribute) and node.func.attr in CHANGING:
+            yield root(node.func.value), node.lineno
+
+
+def is_new(node):
+    """Tell whether an expression surely gives a list, dict or set that nothing else has."""
+    if isinstance(node, ast.BinOp):
+        return is_new(node.left) and (is_new(node.right) or isinstance(node.op, ast.Mult))
+    if isinstance(node, ast.Call):
+        return ast.unparse(node.func) in ("list", "dict", "set", "sorted")
+    return isinstance(node, (ast.List, ast.Dict, ast.ListComp, ast.DictComp, ast.Set, ast.SetComp))
+
+
 class LanguageTest(unittest.TestCase):
     def assertNone(self, found):
         self.assertEqual([(file.name, getattr(node, "lineno", node)) for file, node in found], [])
@@ -162,6 +199,26 @@ class LanguageTest(unittest.TestCase):
         self.assertNone((file, node) for file, node in nodes(ast.BinOp)
                         if isinstance(node.op, ast.Pow) and not isinstance(node.right, ast.Constant))
         self.assertNone((file, node) for file, node in nodes(ast.ExceptHandler) if node.type is None)
+
+    def test_functions_change_what_they_made_alone(self):
+        """L5 Operators: what operators and properties run changes no other thing (here: nothing does)."""
+        for file, function in nodes(ast.FunctionDef):
+            if function.name in IN_PLACE:
+                continue
+            for name, line in changed_names(function):
+                worths = [node.value for node in ast.walk(function) if isinstance(node, (ast.Assign, ast.AugAssign))
+                          for target in getattr(node, "targets", None) or [node.target]
+                          if name in [part.id for part in ast.walk(target) if isinstance(part, ast.Name)]
+                          and not isinstance(target, (ast.Subscript, ast.Attribute))]
+                self.assertTrue(worths and all(map(is_new, worths)), (file, line, name))
+
+    def test_functions_call_nothing_that_they_are_passed(self):
+        """L5 Operators"""
+        for file, function in nodes(ast.FunctionDef):
+            local = set(bound_names(function.args)) | {name for part in function.body for name in bound_names(part)}
+            for node in ast.walk(function):
+                if isinstance(node, ast.Call) and isinstance(node.func, ast.Name):
+                    self.assertNotIn(node.func.id, local - {"cls"}, (file, node.lineno))
 
     def test_what_is_ordered(self):
         """L5 Operators: beside order methods, sorted, min and max take what is plainly numbers or strings."""

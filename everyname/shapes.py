@@ -1,0 +1,224 @@
+"""Values over a stock, told without listing the others in them.
+
+A value is a pair (shape, slots). The shape tells how it is built, with labels 0, 1, .. in the place of
+the others on which it depends; slots tells which other stands for each label. Inside an evaluation an
+other is a slot, an integer from 0 on, and different slots are different others; nothing else is known
+of them. So the row [u, all] has a shape with one label and the set `all` a shape without any.
+
+Shapes are in one form: two values are equal if their shapes have equal keys and their slots are equal,
+as long as there are enough others (check_apart). The turns of a shape are the orders in which its slots
+may also stand; slots are kept in the least of them. An own slot of a set, -1, -2, .., stands for every
+other that is not among the slots of the set (see everyname/orbits.py).
+"""
+
+
+class Tight(ValueError):
+    """There may be too few others for telling values apart by their shapes."""
+
+
+class Stock:
+    """The known names and the others: some listed, by their numbers from 1 on, the rest alike."""
+
+    def __init__(self, known, listed, alike):
+        self.known = known
+        self.listed = listed
+        self.alike = alike
+
+
+class Shape:
+    """How a value is built.
+
+    kind is "leaf" (a name or a mark; parts is what it is shown as), "slot" (any other), "row" (parts
+    are its parts, with labels for slots) or "set" (parts are its orbits by their keys, with labels for
+    slots). needs are its needs, and inner those of the members of a set (see joined_needs). weight is the
+    size of its values when they are shown.
+    """
+
+    def __init__(self, kind, key, turns, parts, needs, inner, weight):
+        self.kind = kind
+        self.key = key
+        self.turns = turns
+        self.parts = parts
+        self.needs = needs
+        self.inner = inner
+        self.weight = weight
+
+
+def leaf(kind, told, key):
+    """Return the value of a name or a mark that is shown as (kind, told)."""
+    return (Shape("leaf", key, ((),), (kind, told), ((), ()), ((), ()), 0), ())
+
+
+def known_value(word):
+    """Return the value of a known name."""
+    return leaf("known", word, word)
+
+
+def mark_value(word):
+    """Return the value of a mark."""
+    return leaf("mark", word, "'" + word + "'")
+
+
+def listed_value(k):
+    """Return the value of the listed other k."""
+    return leaf("other", k, f"#{k}")
+
+
+def slot_shape():
+    """Return the shape of an other that is told by a slot."""
+    return Shape("slot", "@", ((0,),), (), ((), ()), ((), ()), 0)
+
+
+def key_of(value):
+    """Return the key of a value, the same for equal values only."""
+    shape, slots = value
+    return (shape.key, slots)
+
+
+def part_text(value):
+    """Return the text of a part of a greater shape."""
+    shape, labels = value
+    if not labels:
+        return shape.key
+    return shape.key + "(" + " ".join([str(label) for label in labels]) + ")"
+
+
+def joined_needs(several):
+    """Return several needs as one.
+
+    Needs are two tuples: one for sets that are compared with each other, one for all sets inside these.
+    Each has a pair for each set: on how many others it depends, and how many own slots its orbits have
+    at most.
+    """
+    outer = {}
+    inner = {}
+    for needs in several:
+        for pair in needs[0]:
+            outer[pair] = True
+        for pair in needs[1]:
+            inner[pair] = True
+    return (tuple(outer), tuple(inner))
+
+
+def needs_of(values):
+    """Return the needs of values that are compared with each other."""
+    return joined_needs([shape.needs for shape, _ in values])
+
+
+def check_apart(stock, needs):
+    """Raise Tight if different shapes with these needs may show as the same value.
+
+    Take two sets that depend on s and z others and have at most k own slots. Told by orbits around
+    the s + z others, one of them has an orbit that the other one lacks. If there are s + z + k others, this
+    orbit has members; so the sets differ if their members can be told apart, which is asked for, too.
+    """
+    for pairs in needs:
+        for many, own in pairs:
+            for other, further in pairs:
+                free = own if own > further else further
+                if free > 0 and many + other + free > stock.alike:
+                    raise Tight()
+
+
+def placed(shape, slots):
+    """Return the value with this shape and these slots, in the least order."""
+    least = tuple(slots)
+    if len(shape.turns) > 1:
+        for turn in shape.turns:
+            order = tuple([slots[k] for k in turn])
+            if order < least:
+                least = order
+    return (shape, least)
+
+
+def own_numbered(slots, around):
+    """Return the slots with -1, -2, .. for those that are not in around, by their first places."""
+    names = {}
+    found = []
+    for slot in slots:
+        if slot in around:
+            found.append(slot)
+        else:
+            if slot not in names:
+                names[slot] = -1 - len(names)
+            found.append(names[slot])
+    return tuple(found)
+
+
+def orbit(value, around):
+    """Return the orbit of a value: the value with own slots, in the least order, for all not in around."""
+    shape, slots = value
+    if not slots:
+        return (shape, ())
+    least = None
+    for turn in shape.turns:
+        order = own_numbered([slots[k] for k in turn], around)
+        if least is None or order < least:
+            least = order
+    return (shape, least)
+
+
+def own_many(slots):
+    """Return how many own slots there are."""
+    return len({slot for slot in slots if slot < 0}) if slots else 0
+
+
+def falling(n, many):
+    """Return n * (n - 1) * .., with many factors."""
+    found = 1
+    for k in range(many):
+        found = found * (n - k)
+    return found
+
+
+def orbit_many(stock, value, around):
+    """Return how many values there are in an orbit."""
+    shape, slots = value
+    if not slots:
+        return 1
+    same = [True for turn in shape.turns if own_numbered([slots[k] for k in turn], around) == slots]
+    return falling(stock.alike - len(around), own_many(slots)) // len(same)
+
+
+def row_parts(value):
+    """Return the values that are the parts of a row."""
+    shape, slots = value
+    return [placed(inner, [slots[label] for label in labels]) for inner, labels in shape.parts]
+
+
+def least_labels(shape, slots, orders):
+    """Return the least labels that slots get behind these orders of slots, and the orders that give them.
+
+    An order tells which slot has which label; slots that are not in it yet get the next labels.
+    """
+    least = None
+    kept = []
+    for order in orders:
+        for turn in shape.turns:
+            turned = [slots[k] for k in turn]
+            longer = order + tuple([slot for slot in turned if slot not in order])
+            labels = tuple([longer.index(slot) for slot in turned])
+            if least is None or labels < least:
+                least = labels
+                kept = [longer]
+            elif labels == least:
+                kept = kept + [longer]
+    return least, kept
+
+
+def turns_of(orders):
+    """Return the turns of a shape whose labels may stand for the slots in each of these orders."""
+    first = orders[0]
+    return tuple([tuple([first.index(slot) for slot in order]) for order in orders])
+
+
+def row_value(values):
+    """Return the row of the values."""
+    orders = [()]
+    parts = ()
+    for shape, slots in values:
+        labels, orders = least_labels(shape, slots, orders)
+        parts = parts + ((shape, labels),)
+    key = "[" + ", ".join([part_text(part) for part in parts]) + "]"
+    weight = sum([shape.weight for shape, _ in values])
+    return placed(Shape("row", key, turns_of(orders), parts, needs_of(values), ((), ()), weight), orders[0])
