@@ -56,7 +56,10 @@ def may_go_on(triples, level, kind):
 
 def last_kind(triples, level):
     """Return the kind of the last line on this level."""
-    return [kind for place, kind, _ in triples if place == level][-1]
+    at = len(triples) - 1
+    while triples[at][0] != level:
+        at = at - 1
+    return triples[at][1]
 
 
 def may_follow(triples, level, kind):
@@ -86,7 +89,7 @@ def read_triples(lines, known):
 
 def rows_at(triples, at, level):
     """Return the statements on a level from the triple with the index at on, and the index behind them."""
-    rows = ()
+    rows = []
     while at < len(triples) and triples[at][0] == level and triples[at][1] != "else":
         kind, row = triples[at][1], triples[at][2]
         at += 1
@@ -97,8 +100,8 @@ def rows_at(triples, at, level):
                 second, at = rows_at(triples, at + 1, level + 1)
                 row = row[:3] + (second,)
         if kind != "pass":
-            rows = rows + (row,)
-    return rows, at
+            rows.append(row)
+    return tuple(rows), at
 
 
 def read_program(text):

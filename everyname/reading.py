@@ -7,7 +7,7 @@ a program writes them: who calls read_line or read_whole gets only what reads ba
 """
 
 from everyname.texts import BEHIND_NAME, BETWEEN, head_text, tree_text
-from everyname.trees import DEEPEST, FORMS, GREATEST, is_statement, is_tree
+from everyname.trees import DEEPEST, FORMS, GREATEST, MOST_PARTS, MOST_SOURCES, is_statement, is_tree
 from everyname.words import LETTERS
 
 DIGITS = "0123456789"
@@ -86,7 +86,7 @@ def read_parts(text, at, known, depth, end, parts):
             at = passed(text, at, ", ")
         part, at = read_tree(text, at, known, depth + 1)
         parts = parts + (part,)
-        if len(parts) >= len(FORMS["row"]):
+        if len(parts) > MOST_PARTS:
             raise Unreadable()
     return parts, at + 1
 
@@ -100,7 +100,7 @@ def read_braces(text, at, known, depth):
         parts, at = read_parts(text, at, known, depth, "}", (first,))
         return ("set",) + parts, at
     sources = ()
-    while text[at:at + 5] == " for ":
+    while text[at:at + 5] == " for " and len(sources) < MOST_SOURCES:
         pattern, source, at = read_source(text, at + 5, known, depth)
         sources = sources + ((pattern, source),)
     test = ("true",)
@@ -127,7 +127,7 @@ def read_pattern(text, at):
         if words:
             at = passed(text, at, ", ")
         word = run_of(text, at, LETTERS)
-        if not word:
+        if not word or len(words) == MOST_PARTS:
             raise Unreadable()
         words = words + (word,)
         at = at + len(word)

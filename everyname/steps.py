@@ -22,18 +22,21 @@ def steps_of(rows, start=0):
     A step is a put, an add or a drop; ("if", test, index) or ("while", test, index), which go on at the
     index if the test does not hold; or ("go", index), which goes on there.
     """
-    found = ()
+    found = []
     for row in rows:
         at = start + len(found)
         if row[0] not in ("if", "while"):
-            found = found + (row,)
+            found.append(row)
             continue
         inner = steps_of(row[2], at + 1)
         behind = at + len(inner) + 2
         second = () if row[0] == "while" else steps_of(row[3], behind)
         target = at if row[0] == "while" else behind + len(second)
-        found = found + ((row[0], row[1], behind),) + inner + (("go", target),) + second
-    return found
+        found.append((row[0], row[1], behind))
+        found.extend(inner)
+        found.append(("go", target))
+        found.extend(second)
+    return tuple(found)
 
 
 def assigned(stock, step, state):

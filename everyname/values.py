@@ -7,9 +7,9 @@ indexes from start to end - 1, which are greater than its own.
 
 from everyname.checks import is_whole
 from everyname.errors import BadValue
+from everyname.trees import MOST_PARTS
 from everyname.words import is_free_word, is_word
 
-MOST_PARTS = 4
 DIGITS_AT_ONCE = 60
 
 

@@ -153,6 +153,21 @@ class TreeTextsTest(TextsTestCase):
 
 
 class ProgramTextsTest(TextsTestCase):
+    def test_example(self):
+        text = ("known ann\nnear = {[u, v] for u in all for v in all if not (u == v)}\nmet = {ann}\n"
+                "while (count(met) < 3):\n  met |= {v for [u, v] in near if (u in met)}")
+        given = Program.read(text)
+        self.assertEqual([given.known, given.variables, len(given.statements)], [("ann",), ("met", "near"), 3])
+        self.assertEqual(given.text, text)
+
+    def test_long_texts(self):
+        text = "known\n" + "\n".join(["if true:\n  x = all\nelse:\n  y = all"] * 2000)
+        self.assertEqual(Program.read(text).text, text)
+        for line in ("x = {u" + " for u in all" * 50000 + "}", "x = {u for [" + ", ".join(["u"] * 50000) + "] in all}",
+                     "x = [" + ", ".join(["u"] * 50000) + "]", "x = " + "a" * 100000):
+            self.assertBadText(2, "known\n" + line)
+        self.assertBadText(1, "known " + ", ".join(["ann"] * 50000))
+
     def test_a_program(self):
         self.assertText(PROGRAM, ("ann", "bob"), STATEMENTS)
 
