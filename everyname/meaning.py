@@ -1,9 +1,9 @@
 """What expressions, tests and numbers mean: an environment tells the value of each variable."""
 
 from everyname.compares import compares
-from everyname.orbits import (all_names, ascending, choices, chosen, collected, has, is_within, members_in,
+from everyname.orbits import (all_names, ascending, choices, chosen, collected, has, is_same, is_within, members_in,
                               members_joined, members_many, no_members, set_value, union)
-from everyname.shapes import check_apart, key_of, known_value, mark_value, needs_of, row_parts, row_value
+from everyname.shapes import known_value, mark_value, row_parts, row_value
 from everyname.trees import free_names, pattern_names
 
 
@@ -138,14 +138,6 @@ def test_holds(stock, t, values):
     if tag == "in":
         return has(stock, tree_members(stock, t[2], values), tree_value(stock, t[1], values))
     return is_same(stock, tree_value(stock, t[1], values), tree_value(stock, t[2], values))
-
-
-def is_same(stock, value, other):
-    """Tell whether two values are equal."""
-    if key_of(value) == key_of(other):
-        return True
-    check_apart(stock, needs_of([value, other]))
-    return False
 
 
 def quantifier_holds(stock, t, values):

@@ -4,8 +4,8 @@ Around some slots, the members of a set fall into orbits: an orbit is a value wi
 members are what it becomes when different others that are not around take the places of the own slots.
 """
 
-from everyname.shapes import (Shape, check_apart, joined_needs, key_of, known_value, listed_value, needs_of, orbit,
-                              orbit_many, own_many, part_text, placed, slot_shape, turns_of)
+from everyname.shapes import (Shape, are_apart, check_apart, joined_needs, key_of, known_value, listed_value, needs_of,
+                              orbit, orbit_many, own_many, part_text, placed, row_parts, slot_shape, turns_of)
 
 
 class Members:
@@ -133,12 +133,28 @@ def chosen(stock, members, others, inside):
     return made_members(left.around, [value for key, value in left.orbits.items() if (key in right.orbits) == inside])
 
 
+def is_same(stock, value, other):
+    """Tell whether two values are equal."""
+    if key_of(value) == key_of(other):
+        return True
+    if value[0].kind != other[0].kind or are_apart(stock, needs_of([value, other])):
+        return False
+    if value[0].kind == "row":
+        pairs = list(zip(row_parts(value), row_parts(other)))
+        return len(value[0].parts) == len(other[0].parts) and all([is_same(stock, a, b) for a, b in pairs])
+    # Where sets cannot be told apart by their keys, their members often can.
+    left, right = side_by_side(stock, members_in(value), members_in(other))
+    return len(left.orbits) == len(right.orbits) and all([key in right.orbits for key in left.orbits])
+
+
 def has(stock, members, value):
     """Tell whether a value is one of the members."""
     if key_of(orbit(value, members.around)) in members.orbits:
         return True
-    check_apart(stock, joined_needs([members.needs, value[0].needs]))
-    return False
+    if are_apart(stock, joined_needs([members.needs, value[0].needs])):
+        return False
+    around = ascending(members.around + value[1])
+    return any([is_same(stock, value, member) for member, _ in choices(stock, members, around)])
 
 
 def is_within(stock, members, others):

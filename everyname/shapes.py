@@ -105,8 +105,8 @@ def needs_of(values):
     return joined_needs([shape.needs for shape, _ in values])
 
 
-def check_apart(stock, needs):
-    """Raise Tight if different shapes with these needs may show as the same value.
+def are_apart(stock, needs):
+    """Tell whether values with these needs surely differ if their keys do.
 
     Take two sets that depend on s and z others and have at most k own slots. Told by orbits around
     the s + z others, one of them has an orbit that the other one lacks. If there are s + z + k others, this
@@ -117,7 +117,14 @@ def check_apart(stock, needs):
             for other, further in pairs:
                 free = own if own > further else further
                 if free > 0 and many + other + free > stock.alike:
-                    raise Tight()
+                    return False
+    return True
+
+
+def check_apart(stock, needs):
+    """Raise Tight if values with these needs may be equal though their keys differ."""
+    if not are_apart(stock, needs):
+        raise Tight()
 
 
 def placed(shape, slots):

@@ -13,7 +13,7 @@ from samples import POOL, Sampler, mixed
 
 FAR, FARTHER = 10 ** 60, 10 ** 300
 ANN, ALL, TRUE = ("known", "ann"), ("all",), ("true",)
-U, X = ("var", "u"), ("var", "x")
+U, V, X = ("var", "u"), ("var", "v"), ("var", "x")
 EXAMPLE = Program.read("""known ann
 near = {[u, v] for u in all for v in all if not (u == v)}
 met = {ann}
@@ -523,6 +523,14 @@ class AskingTest(RunsTestCase):
             self.assertIs(found.holds(("within", X, y)), n in (0, 3))
             self.assertIs(found.holds(("within", y, X)), n in (0, 1, 3))
             self.assertIs(found.holds(("same", ("meet", X, y), ("set",))), n != 3)
+
+    def test_rows_that_are_equal_at_one_n_alone(self):
+        but = ("without", ALL, ("set", U))
+        for row, same in ((("row", U, ("set", V)), 2), (("row", V, ("set", V)), None), (("row", U, ("set", U)), None),
+                          (("row", U, ("set", V), U), None), (("row", U), None), (("row", U, V), None)):
+            test = ("some", "u", ALL, ("some", "v", ALL, ("and", ("not", ("same", U, V)), ("same", ("row", U, but), row))))
+            for n in (0, 1, 2, 3, 4, FAR):
+                self.assertIs(run(Program(), n).holds(test), n == same, (n, row))
 
     def test_tests_that_need_sets_of_all_but_a_few(self):
         but = ("gather", ("without", ALL, ("set", U)), (("u", ALL),), TRUE)
