@@ -166,7 +166,7 @@ def members_joined(stock, members):
     """Return the members of the members."""
     found = []
     for value, around in choices(stock, members, members.around):
-        found.extend(spread(stock, members_in(value), around).orbits.values())
+        found.extend(list(spread(stock, members_in(value), around).orbits.values()))
     return collected(stock, members.around, found)
 
 

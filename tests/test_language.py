@@ -96,6 +96,50 @@ def is_new(node):
     return isinstance(node, (ast.List, ast.Dict, ast.ListComp, ast.DictComp, ast.Set, ast.SetComp))
 
 
+WALKS = ("list", "tuple", "dict", "sorted", "sum", "any", "all", "enumerate", "zip", "bytes", "min", "max")
+
+
+def is_walk(node):
+    """Tell whether a call gives what is to be walked on the spot."""
+    if isinstance(node.func, ast.Name):
+        return node.func.id in ("range", "zip", "enumerate", "reversed")
+    return isinstance(node.func, ast.Attribute) and node.func.attr in ("items", "keys", "values") and not node.args
+
+
+def walking_places(node):
+    """The nodes below a node that are walked on the spot."""
+    if isinstance(node, (ast.For, ast.comprehension)):
+        return [node.iter]
+    if isinstance(node, ast.Compare):
+        # k in d.keys() and k in range(3) may stand, but not k in d.values().
+        return [right for sign, right in zip(node.ops, node.comparators) if isinstance(sign, (ast.In, ast.NotIn))
+                and ast.unparse(right.func if isinstance(right, ast.Call) else right).split(".")[-1] in ("keys", "range")]
+    if not isinstance(node, ast.Call) or not node.args:
+        return []
+    word = node.func.id if isinstance(node.func, ast.Name) else None
+    if word in ("min", "max"):
+        return node.args if len(node.args) == 1 and all(part.arg == "default" for part in node.keywords) else []
+    if word == "zip":
+        return node.args
+    if word in WALKS:
+        return node.args[:1]
+    if word in ("len", "reversed"):
+        allowed = ("range", "items") if word == "len" else ("range",)
+        return [part for part in node.args if isinstance(part, ast.Call) and ast.unparse(part.func).split(".")[-1] in allowed]
+    if isinstance(node.func, ast.Attribute) and node.func.attr == "join" and isinstance(node.func.value, ast.Constant):
+        return node.args
+    return []
+
+
+def walked_elsewhere(tree):
+    """The lines of ranges, zips, views and the like that stand where they are not walked on the spot.
+
+    A variable that keeps one (L23, Kept ranges) is taken for such a place, too: the package has none.
+    """
+    fine = {id(part) for node in ast.walk(tree) for part in walking_places(node)}
+    return [node.lineno for node in ast.walk(tree) if isinstance(node, ast.Call) and is_walk(node) and id(node) not in fine]
+
+
 class LanguageTest(unittest.TestCase):
     def assertNone(self, found):
         self.assertEqual([(file.name, getattr(node, "lineno", node)) for file, node in found], [])
@@ -232,6 +276,23 @@ class LanguageTest(unittest.TestCase):
             if ast.unparse(node.func) in ("sorted", "min", "max"):
                 self.assertTrue(any(map(plain, node.args)), (file, node.lineno))
             self.assertNotEqual(ast.unparse(node.func).split(".")[-1], "sort", (file, node.lineno))
+
+    def test_what_is_iterated_at_once(self):
+        """L23: a range, a zip, an enumerate, a reversed or a view stands only where it is walked on the spot."""
+        for file in FILES:
+            self.assertEqual(walked_elsewhere(ast.parse(file.read_text())), [], file)
+
+    def test_what_is_iterated_at_once_is_found(self):
+        for text in ("xs.extend(d.values())", "xs.extend(range(3))", "d.update(zip(a, b))", "x = f(d.items())", "x = d.keys()",
+                     "def f():\n    return enumerate(xs)", "x = [zip(a, b)]", "x = len(d.values())", "x = list(reversed(d.items()))",
+                     "x = d.values() == e", "x = [*d.values()]", "x = max(d.values(), 1)", "x = sep.join(d.values())",
+                     "x = set(d.values())", "x = dict(sorted(xs), at=d.items())"):
+            self.assertEqual(len(walked_elsewhere(ast.parse(text))), 1, text)
+        for text in ("for x in d.values():\n    pass", "x = [k for k, v in d.items() for j in range(k)]", "xs.extend(list(d.values()))",
+                     "x = sorted(zip(a, b))", "x = list(enumerate(zip(a, b)))", "x = len(range(3))", "x = list(reversed(range(3)))",
+                     "x = k in d.keys()", "x = max(d.values(), default=0)", "x = ', '.join(d.keys())", "x = len(d.items())",
+                     "x = world.values(3)"):
+            self.assertEqual(walked_elsewhere(ast.parse(text)), [], text)
 
     def test_names(self):
         """L8, L12, L15, L17"""
