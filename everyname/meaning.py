@@ -1,8 +1,9 @@
 """What expressions, tests and numbers mean: an environment tells the value of each variable."""
 
-from everyname.compares import compares
+from everyname.amounts import amount_compares
 from everyname.orbits import (all_names, ascending, choices, chosen, collected, has, is_same, is_within, members_in,
                               members_joined, members_many, no_members, set_value, union)
+from everyname.rows import row_product, row_sum, row_times
 from everyname.shapes import known_value, mark_value, row_parts, row_value
 from everyname.trees import free_names, pattern_names
 
@@ -18,7 +19,7 @@ def tree_value(stock, e, values):
         return values[e[1]]
     if tag == "row":
         return row_value([tree_value(stock, part, values) for part in e[1:]])
-    return set_value(stock, tree_members(stock, e, values))
+    return set_value(tree_members(stock, e, values))
 
 
 def tree_members(stock, e, values):
@@ -132,7 +133,7 @@ def test_holds(stock, t, values):
     if tag in ("some", "every"):
         return quantifier_holds(stock, t, values)
     if tag == "compare":
-        return compares(number_value(stock, t[1], values), t[2], number_value(stock, t[3], values))
+        return amount_compares(stock, number_row(stock, t[1], values), t[2], number_row(stock, t[3], values))
     if tag == "within":
         return is_within(stock, tree_members(stock, t[1], values), tree_members(stock, t[2], values))
     if tag == "in":
@@ -151,15 +152,15 @@ def quantifier_holds(stock, t, values):
     return tag == "every"
 
 
-def number_value(stock, x, values):
-    """Return the integer that a number means."""
+def number_row(stock, x, values):
+    """Return the row of the number that a tree means."""
     tag = x[0]
     if tag == "whole":
-        return x[1]
+        return (x[1],)
     if tag == "count":
-        return members_many(stock, tree_members(stock, x[1], values))
-    left = number_value(stock, x[1], values)
-    right = number_value(stock, x[2], values)
-    if tag == "plus":
-        return left + right
-    return left - right if tag == "minus" else left * right
+        return members_many(tree_members(stock, x[1], values))
+    left = number_row(stock, x[1], values)
+    right = number_row(stock, x[2], values)
+    if tag == "times":
+        return row_product(left, right)
+    return row_sum(left, right if tag == "plus" else row_times(right, -1))

@@ -4,8 +4,10 @@ Around some slots, the members of a set fall into orbits: an orbit is a value wi
 members are what it becomes when different others that are not around take the places of the own slots.
 """
 
-from everyname.shapes import (Shape, are_apart, check_apart, joined_needs, key_of, known_value, listed_value, needs_of,
-                              orbit, orbit_many, own_many, part_text, placed, row_parts, slot_shape, turns_of)
+from everyname.rows import row_sum, trimmed
+from everyname.shapes import (Shape, are_apart, at_least, check_apart, joined_needs, key_of, known_value, listed_value,
+                              most_own, needs_of, orbit, orbit_row, own_many, part_text, placed, row_parts, slot_shape,
+                              turns_of)
 
 
 class Members:
@@ -59,8 +61,10 @@ def members_in(value):
 
 def all_names(stock):
     """Return all names of the stock."""
-    found = [known_value(word) for word in stock.known] + [listed_value(k + 1) for k in range(stock.listed)]
-    if stock.alike > 0:
+    found = [known_value(word) for word in stock.known]
+    if stock.listed is not None:
+        return made_members((), found + [listed_value(k + 1) for k in range(stock.listed)])
+    if at_least(stock, 1):
         found.append((slot_shape(), (-1,)))
     return made_members((), found)
 
@@ -92,9 +96,20 @@ def spread(stock, members, around):
     added = [slot for slot in around if slot not in members.around]
     if not added:
         return members
+    values = list(members.orbits.values())
+    most = most_own(stock, around, max([int(own_many(slots)) for _, slots in values], default=0))
+    found = []
+    for value in values:
+        found.extend(spread_orbits(value, added, around, most))
+    return Members(around, {key_of(value): value for value in found}, members.needs)
+
+
+def spread_freely(members, around):
+    """Return the same members, told by orbits around these slots, as they are where there are enough others."""
+    added = [slot for slot in around if slot not in members.around]
     found = []
     for value in members.orbits.values():
-        found.extend(spread_orbits(value, added, around, stock.alike - len(around)))
+        found.extend(spread_orbits(value, added, around, own_many(value[1])))
     return Members(around, {key_of(value): value for value in found}, members.needs)
 
 
@@ -170,9 +185,12 @@ def members_joined(stock, members):
     return collected(stock, members.around, found)
 
 
-def members_many(stock, members):
-    """Return how many members there are."""
-    return sum([orbit_many(stock, value, members.around) for value in members.orbits.values()])
+def members_many(members):
+    """Return the row of the number of members."""
+    found = ()
+    for value in members.orbits.values():
+        found = row_sum(found, orbit_row(value, members.around))
+    return trimmed(found)
 
 
 def without_slot(members, slot):
@@ -263,20 +281,12 @@ def set_needs(members, table):
     return (((len(members.around), own),), tuple(each))
 
 
-def set_weight(stock, members):
-    """Return the size of a set with these members when it is shown."""
-    weight = 0
-    for value in members.orbits.values():
-        weight = weight + orbit_many(stock, value, members.around) * (1 + value[0].weight)
-    return weight
-
-
-def set_value(stock, members):
+def set_value(members):
     """Return the set with these members."""
     members = least_around(members)
     table, orders = least_labelled(members)
     key = "{" + str(len(members.around)) + "; " + ", ".join(table) + "}"
     parts = {key_of(part): part for part in table.values()}
     needs = set_needs(members, table)
-    shape = Shape("set", key, turns_of(orders), parts, needs, members.needs, set_weight(stock, members))
+    shape = Shape("set", key, turns_of(orders), parts, needs, members.needs)
     return placed(shape, orders[0])

@@ -1,23 +1,14 @@
 """Runs of programs over a stock, however many others it has."""
 
 from everyname.checks import check_from
-from everyname.errors import BadProgram, NoVariable, TooMany
+from everyname.errors import BadProgram, NoVariable
 from everyname.meaning import test_holds
 from everyname.orbits import chosen, members_in, members_many
-from everyname.shapes import Stock, Tight, placed
-from everyname.showing import shown
+from everyname.rows import row_value
+from everyname.shapes import Tight, alike_stock, listed_stock
+from everyname.showing import least_shown, shown_within
 from everyname.steps import executed, steps_of
 from everyname.trees import free_names, is_tree
-
-
-def alike_stock(known, n):
-    """Return the stock in which nothing is known of the n others."""
-    return Stock(known, 0, n)
-
-
-def listed_stock(known, n):
-    """Return the stock in which the n others are listed, for the few of them that are too few for shapes."""
-    return Stock(known, n, 0)
 
 
 def check_variable(variable, variables):
@@ -26,11 +17,11 @@ def check_variable(variable, variables):
         raise NoVariable(variable)
 
 
-def check_test(test, known, variables):
-    """Raise BadProgram or NoVariable if test is no test over these known names and state variables."""
-    if not is_tree(test, "test", known):
+def check_tree(tree, kind, known, variables):
+    """Raise BadProgram or NoVariable if tree is none of this kind over these known names and state variables."""
+    if not is_tree(tree, kind, known):
         raise BadProgram(())
-    for name in sorted([str(name) for name in free_names(test)]):
+    for name in sorted([str(name) for name in free_names(tree)]):
         check_variable(name, variables)
 
 
@@ -49,32 +40,32 @@ class Run:
         # What is done to the program later does not change the run.
         self._variables = program.variables
         self._steps = steps_of(program.statements)
-        self._stock = alike_stock(program.known, n)
+        self._stock = alike_stock(program.known, n, n)
         try:
-            outcome = executed(self._stock, self._variables, self._steps, most)
+            outcome = executed(self._stock, self._variables, self._steps, most, {})
         except Tight:
             self._stock = listed_stock(program.known, n)
-            outcome = executed(self._stock, self._variables, self._steps, most)
+            outcome = executed(self._stock, self._variables, self._steps, most, {})
         self._state = outcome.state
         self.end = outcome.end
         self.entry = outcome.entry
-        self.length = None if outcome.entry is None else outcome.rounds - outcome.entry
+        self.length = outcome.length()
         self.rounds = outcome.rounds
         self.course = outcome.course
 
     def _listed(self):
         """Return the stock with listed others and the last state over it."""
         stock = listed_stock(self._stock.known, self.n)
-        return stock, executed(stock, self._variables, self._steps, self.most).state
+        return stock, executed(stock, self._variables, self._steps, self.most, {}).state
 
     def count(self, variable):
         """Return the number of members of the variable's value in the last state."""
         check_variable(variable, self._variables)
-        return members_many(self._stock, members_in(self._state[variable]))
+        return row_value(members_many(members_in(self._state[variable])), self.n)
 
     def holds(self, test):
         """Tell whether the test holds in the last state."""
-        check_test(test, self._stock.known, self._variables)
+        check_tree(test, "test", self._stock.known, self._variables)
         try:
             return test_holds(self._stock, test, self._state)
         except Tight:
@@ -85,9 +76,7 @@ class Run:
         """Return the shown value of the variable in the last state."""
         check_variable(variable, self._variables)
         value = self._state[variable]
-        if value[0].weight > most:
-            raise TooMany(value[0].weight)
-        return shown(self._stock, value)
+        return shown_within(self.n, value, most)
 
     def part(self, a, b, *, most=200):
         """Return a shown member of the value of a that is none of the value of b; None if there is none."""
@@ -99,15 +88,7 @@ class Run:
         except Tight:
             stock, state = self._listed()
             found = missing(stock, state, a, b)
-        least = None
-        for shape, slots in found:
-            if least is None or shape.weight < least[0].weight:
-                least = (shape, slots)
-        if least is None:
-            return None
-        if least[0].weight > most:
-            raise TooMany(least[0].weight)
-        return shown(stock, placed(least[0], [-slot for slot in least[1]]))
+        return least_shown(self.n, found, most)
 
 
 def run(program, n, *, most=60):

@@ -12,17 +12,63 @@ other that is not among the slots of the set (see everyname/orbits.py).
 """
 
 
+from math import factorial
+
+from everyname.rows import row_ahead
+
+
 class Tight(ValueError):
     """There may be too few others for telling values apart by their shapes."""
 
 
-class Stock:
-    """The known names and the others: some listed, by their numbers from 1 on, the rest alike."""
+class Split(ValueError):
+    """Something is not the same for every n of a stock, but is up to the n just below at, or from at on."""
 
-    def __init__(self, known, listed, alike):
+    def __init__(self, at):
+        self.at = at
+
+
+class Stock:
+    """The known names and the others, for all n from low to high at once; high is None if there is no end.
+
+    Where nothing is known of the others, listed is None. Otherwise listed is their number, each one is told
+    by its own number from 1 on, and low and high are 0, because there are no further ones. shift is what is
+    added to an n of this stock where a Split tells it.
+    """
+
+    def __init__(self, known, listed, low, high, shift=0):
         self.known = known
         self.listed = listed
-        self.alike = alike
+        self.low = low
+        self.high = high
+        self.shift = shift
+
+
+def alike_stock(known, low, high):
+    """Return the stock for all n from low to high in which nothing is known of the others."""
+    return Stock(known, None, low, high)
+
+
+def listed_stock(known, n):
+    """Return the stock in which the n others are listed, for the few of them that are too few for shapes."""
+    return Stock(known, n, 0, 0)
+
+
+def at_least(stock, bound):
+    """Tell whether there are at least so many others of which nothing is known."""
+    if stock.low >= bound:
+        return True
+    if stock.high is not None and stock.high < bound:
+        return False
+    raise Split(bound + stock.shift)
+
+
+def most_own(stock, around, many):
+    """Return how many of so many own slots there can be besides the slots around, or more than many."""
+    free = stock.low - len(around)
+    if free >= many or stock.low == stock.high:
+        return free
+    raise Split(stock.low + 1 + stock.shift)
 
 
 class Shape:
@@ -30,23 +76,21 @@ class Shape:
 
     kind is "leaf" (a name or a mark; parts is what it is shown as), "slot" (any other), "row" (parts
     are its parts, with labels for slots) or "set" (parts are its orbits by their keys, with labels for
-    slots). needs are its needs, and inner those of the members of a set (see joined_needs). weight is the
-    size of its values when they are shown.
+    slots). needs are its needs, and inner those of the members of a set (see joined_needs).
     """
 
-    def __init__(self, kind, key, turns, parts, needs, inner, weight):
+    def __init__(self, kind, key, turns, parts, needs, inner):
         self.kind = kind
         self.key = key
         self.turns = turns
         self.parts = parts
         self.needs = needs
         self.inner = inner
-        self.weight = weight
 
 
 def leaf(kind, told, key):
     """Return the value of a name or a mark that is shown as (kind, told)."""
-    return (Shape("leaf", key, ((),), (kind, told), ((), ()), ((), ()), 0), ())
+    return (Shape("leaf", key, ((),), (kind, told), ((), ()), ((), ())), ())
 
 
 def known_value(word):
@@ -66,7 +110,12 @@ def listed_value(k):
 
 def slot_shape():
     """Return the shape of an other that is told by a slot."""
-    return Shape("slot", "@", ((0,),), (), ((), ()), ((), ()), 0)
+    return Shape("slot", "@", ((0,),), (), ((), ()), ((), ()))
+
+
+def slot_value(slot):
+    """Return the value of the other for which a slot stands."""
+    return (slot_shape(), (slot,))
 
 
 def key_of(value):
@@ -105,20 +154,41 @@ def needs_of(values):
     return joined_needs([shape.needs for shape, _ in values])
 
 
-def are_apart(stock, needs):
-    """Tell whether values with these needs surely differ if their keys do.
+def enough_for(many, own, other, further):
+    """Return a number of others that is enough for telling two sets apart by their keys.
 
-    Take two sets that depend on s and z others and have at most k own slots. Told by orbits around
-    the s + z others, one of them has an orbit that the other one lacks. If there are s + z + k others, this
-    orbit has members; so the sets differ if their members can be told apart, which is asked for, too.
+    The sets depend on many and other others, S and Z, and their orbits have at most own and further own
+    slots. The members are told apart, too, which is asked for by itself. If the keys differ, so do the
+    orbits around the others in S and Z, and an orbit has members where there are enough others for its own
+    slots. That is one bound. The other one looks at S and Z. A set really depends on each other in S, that is,
+    changes if this one is exchanged with one that is not in S, if there are enough others for the orbits around
+    S and one more. If there is an other in neither, sets that depend on different others differ.
     """
+    if own == 0 and further == 0:
+        return 0
+    both = many + other
+    each = 1 + max(int(both), int(many + own), int(other + further))
+    joint = both + max(int(own), int(further))
+    return min(int(each), int(joint))
+
+
+def enough(needs):
+    """Return a number of others that is enough for telling values with these needs apart by their keys."""
+    most = 0
     for pairs in needs:
         for many, own in pairs:
             for other, further in pairs:
-                free = own if own > further else further
-                if free > 0 and many + other + free > stock.alike:
-                    return False
-    return True
+                bound = enough_for(many, own, other, further)
+                if bound > most:
+                    most = bound
+    return most
+
+
+def are_apart(stock, needs):
+    """Tell whether values with these needs surely differ if their keys do."""
+    if stock.listed is not None:
+        return True
+    return at_least(stock, enough(needs))
 
 
 def check_apart(stock, needs):
@@ -170,21 +240,14 @@ def own_many(slots):
     return len({slot for slot in slots if slot < 0}) if slots else 0
 
 
-def falling(n, many):
-    """Return n * (n - 1) * .., with many factors."""
-    found = 1
-    for k in range(many):
-        found = found * (n - k)
-    return found
-
-
-def orbit_many(stock, value, around):
-    """Return how many values there are in an orbit."""
+def orbit_row(value, around):
+    """Return the row of the number of values in an orbit."""
     shape, slots = value
-    if not slots:
-        return 1
+    many = own_many(slots)
+    if many == 0:
+        return (1,)
     same = [True for turn in shape.turns if own_numbered([slots[k] for k in turn], around) == slots]
-    return falling(stock.alike - len(around), own_many(slots)) // len(same)
+    return tuple([count // len(same) for count in row_ahead([0] * many + [factorial(many)], -len(around))])
 
 
 def row_parts(value):
@@ -227,5 +290,4 @@ def row_value(values):
         labels, orders = least_labels(shape, slots, orders)
         parts = parts + ((shape, labels),)
     key = "[" + ", ".join([part_text(part) for part in parts]) + "]"
-    weight = sum([shape.weight for shape, _ in values])
-    return placed(Shape("row", key, turns_of(orders), parts, needs_of(values), ((), ()), weight), orders[0])
+    return placed(Shape("row", key, turns_of(orders), parts, needs_of(values), ((), ())), orders[0])

@@ -15,6 +15,14 @@ class Outcome:
         self.course = course
         self.state = state
 
+    def length(self):
+        """Return the number of while tests from the entry of a round on, or None."""
+        return None if self.entry is None else self.rounds - self.entry
+
+    def way(self):
+        """Return what tells one way to run from another."""
+        return (self.course, self.end, self.entry, self.length())
+
 
 def steps_of(rows, start=0):
     """Return the steps of statements, of which the first one has the index start.
@@ -46,7 +54,7 @@ def assigned(stock, step, state):
         return tree_value(stock, e, state)
     members = tree_members(stock, e, state)
     old = members_in(state[name])
-    return set_value(stock, union(stock, old, members) if tag == "add" else chosen(stock, old, members, False))
+    return set_value(union(stock, old, members) if tag == "add" else chosen(stock, old, members, False))
 
 
 def state_text(state):
@@ -54,9 +62,13 @@ def state_text(state):
     return "; ".join([shape.key for shape, _ in state.values()])
 
 
-def executed(stock, variables, steps, most):
-    """Execute steps over a stock, with at most so many while tests; return the Outcome."""
-    state = {name: set_value(stock, no_members()) for name in variables}
+def executed(stock, variables, steps, most, values):
+    """Execute steps over a stock, with at most so many while tests; return the Outcome.
+
+    The variables begin with these values, those that have none with the empty set.
+    """
+    empty = set_value(no_members())
+    state = {name: values.get(name, empty) for name in variables}
     course = []
     met = {}
     needs = ((), ())

@@ -30,15 +30,31 @@ CLASSES = {
     ("everyname.runs", "Run"): {
         "count": "(self, variable)", "holds": "(self, test)", "value": "(self, variable, *, most=200)",
         "part": "(self, a, b, *, most=200)"},
+    ("everyname.stretches", "Stretch"): {"__contains__": "(self, x)"},
+    ("everyname.stretches", "Courses"): {
+        "__init__": "(self, program, *, most=60)", "__getitem__": "(self, at)", "__len__": "(self)", "__iter__": "(self)",
+        "span": "(self, test)", "least": "(self, test)", "tally": "(self, variable)", "trials": "(self)"},
+    ("everyname.families", "Family"): {
+        "__init__": "(self, program, e)", "of": "(known, e)", "sizes": None, "__call__": "(self, n, most=200)",
+        "count": "(self, n)", "has": "(self, n, value)", "span": "(self)", "__bool__": "(self)", "__contains__": "(self, x)",
+        "only": "(self, span)", "at_known": "(self, word)", "apart": "(self, other, most=200)",
+        **{f"__{word}__": OTHER for word in (
+            "or", "and", "sub", "xor", "ior", "iand", "isub", "ixor", "ror", "eq", "lt", "le", "gt", "ge")}},
+    ("everyname.forms", "Form"): {
+        "sorts": None, "size": None, "text": None, "__len__": "(self)", "__call__": "(self, n, most=200)", "family": "(self)",
+        "__eq__": OTHER},
 }
 KINDS = {"through": classmethod, "falling": staticmethod, "single": staticmethod, "since": staticmethod,
-         "until": staticmethod, "joined": classmethod, "read": classmethod,
-         **{name: property for name in ("degree", "settles", "last", "text")}}
+         "until": staticmethod, "joined": classmethod, "read": classmethod, "of": classmethod,
+         **{name: property for name in ("degree", "settles", "last", "text", "sizes", "sorts", "size")}}
 FUNCTIONS = {
     "everyname.tallies": {"where": "(a, sign, b)"},
     "everyname.values": {"value_text": "(value)", "same_value": "(a, b)", "others_in": "(value)", "members_of": "(value)",
                          "renumbered": "(value, numbers)"},
     "everyname.runs": {"run": "(program, n, *, most=60)"},
+    "everyname.stretches": {"alike": "(program, other, *, most=60)"},
+    "everyname.groups": {"compose": "(p, q)", "inverse": "(p)", "generated": "(size, rows)", "conjugate": "(first, second)"},
+    "everyname.forms": {"form": "(family)"},
 }
 
 
@@ -69,7 +85,12 @@ class InterfaceTest(unittest.TestCase):
                 (made("everyname.sizes", "Size")(), {"row"}), (made("everyname.spans", "Span")(), {"stretches"}),
                 (made("everyname.tallies", "Tally")([(0, 1)]), {"pieces"}), (program, {"known", "statements", "variables"}),
                 (made("everyname.runs", "run")(program, 3),
-                 {"program", "n", "most", "end", "entry", "length", "rounds", "course"})):
+                 {"program", "n", "most", "end", "entry", "length", "rounds", "course"}),
+                (made("everyname.stretches", "Courses")(program), {"program", "most", "rows"}),
+                (made("everyname.stretches", "Courses")(program)[0], {"lo", "hi", "course", "end", "entry", "length", "rounds"}),
+                (made("everyname.families", "Family").of((), ("all",)), {"known"}),
+                (made("everyname.forms", "form")(made("everyname.families", "Family").of((), ("all",))),
+                 {"known", "pattern", "start", "groups", "depends"})):
             self.assertEqual({name for name in vars(thing) if not name.startswith("_")}, attributes)
 
 

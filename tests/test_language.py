@@ -57,6 +57,8 @@ def bound_names(tree):
             yield node.name
         elif isinstance(node, ast.alias):
             yield node.asname or node.name
+        elif isinstance(node, ast.ExceptHandler) and node.name:
+            yield node.name
 
 
 CHANGING = set("""append clear extend insert pop remove reverse setdefault update sort add discard""".split())
@@ -88,11 +90,11 @@ def changed_names(function):
 
 
 def is_new(node):
-    """Tell whether an expression surely gives a list, dict or set that nothing else has."""
+    """Tell whether an expression surely gives a list, dict, set or own object that nothing else has."""
     if isinstance(node, ast.BinOp):
         return is_new(node.left) and (is_new(node.right) or isinstance(node.op, ast.Mult))
     if isinstance(node, ast.Call):
-        return ast.unparse(node.func) in ("list", "dict", "set", "sorted")
+        return ast.unparse(node.func) in ("list", "dict", "set", "sorted", "defaultdict", "Family")
     return isinstance(node, (ast.List, ast.Dict, ast.ListComp, ast.DictComp, ast.Set, ast.SetComp))
 
 
