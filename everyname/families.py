@@ -3,8 +3,9 @@
 from everyname.checks import check_from, check_same_stock
 from everyname.errors import BadProgram, BadValue
 from everyname.orbits import members_in, members_many
-from everyname.outcomes import empty_value, outcome_regions, pieces_tally, state_regions
+from everyname.outcomes import at_known_pieces, empty_value, outcome_regions, pieces_tally, state_regions
 from everyname.programs import Program
+from everyname.reckoning import checked_nodes
 from everyname.regions import (is_always, joined, listed_region, piece_at, region_at, solved, span_of, together,
                                value_pieces, whole_region)
 from everyname.rows import row_value
@@ -12,7 +13,6 @@ from everyname.runs import check_tree
 from everyname.shapes import mark_value
 from everyname.showing import least_orbit, least_shown, shown_within
 from everyname.spans import Span
-from everyname.values import checked
 from everyname.words import is_free_word
 
 MOST = 60
@@ -42,18 +42,6 @@ def combined(tag, family, other):
 def own_regions(family):
     """Return regions with the values of a family, called a."""
     return together({"a": family._pieces})
-
-
-def checked_nodes(value, known, n):
-    """Return the nodes of a shown value and the others in it; raise BadValue if it is none of stock n."""
-    nodes, _ = checked(value)
-    others = {}
-    for inner, _, _ in nodes:
-        if inner[0] == "known" and inner[1] not in known or inner[0] == "other" and inner[1] > n:
-            raise BadValue(value)
-        if inner[0] == "other":
-            others[inner[1]] = True
-    return nodes, others
 
 
 def span_pieces(span):
@@ -90,7 +78,7 @@ class Family:
     def has(self, n, value):
         """Tell whether a shown value is a member at n."""
         check_from(n, 0)
-        nodes, others = checked_nodes(value, self.known, n)
+        nodes, _, others = checked_nodes(value, self.known, n)
         region = region_at(own_regions(self), n)
         # The orders of many others are gone through one by one; so a short list of all others is quicker.
         if not region[2] and FEW < len(others) and n <= 2 * len(others):
@@ -160,7 +148,7 @@ class Family:
         return made_family(self.known, value_pieces(self.known, own_regions(self), e))
 
     def __contains__(self, x):
-        nodes, others = checked_nodes(x, self.known, 0)
+        nodes, _, _ = checked_nodes(x, self.known, 0)
         return all([holds for _, _, _, holds in solved(self.known, own_regions(self), ("has", nodes))])
 
     def __eq__(self, other):
@@ -204,10 +192,7 @@ class Family:
         """Return the family in whose stock one of the others is a further known name."""
         if not is_free_word(word) or word in self.known:
             raise BadProgram(())
-        regions = [(max(low, 1), high, listed, values) for low, high, listed, values in own_regions(self) if high != 0]
-        found = [(low - 1, None if high is None else high - 1, listed, value)
-                 for low, high, listed, value in solved(self.known, regions, ("named", word))]
-        return made_family(self.known + (word,), joined(found))
+        return made_family(self.known + (word,), at_known_pieces(self.known, self._pieces, word))
 
     def apart(self, other, most=200):
         """Return the least n at which two families differ, with a member of one of them alone; None if none is."""

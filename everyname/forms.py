@@ -6,7 +6,7 @@ from everyname.groups import sorted_rows
 from everyname.naming import unnamed
 from everyname.orbits import members_in
 from everyname.patterns import pattern_of
-from everyname.regions import joined, piece_at, solved, span_of, together
+from everyname.regions import joined, piece_at, settled_from, solved, span_of, together
 from everyname.shapes import Split, Stock
 from everyname.showing import shown_within
 from everyname.sizes import Size
@@ -30,8 +30,7 @@ def reading_pieces(known, value, pattern):
 
 def first_alike(known, pieces, others):
     """Return the least m such that the pieces have the same values for all n from m on."""
-    apart = ~span_of(known, together({"a": pieces, "b": others}), ("same", LEFT, RIGHT))
-    return apart.greatest() + 1 if apart else 0
+    return settled_from(span_of(known, together({"a": pieces, "b": others}), ("same", LEFT, RIGHT)))
 
 
 class Form:

@@ -91,20 +91,28 @@ def all_hold(stock, tests, values):
 
 def gathered(stock, e, values):
     """Return the members of a gather."""
-    _, result, sources, test = e
     around = slots_in(values, free_names(e))
+    places = gather_places(stock, e, values, around)
+    return collected(stock, around, [tree_value(stock, e[1], inner) for inner, _ in places])
+
+
+def gather_places(stock, e, values, around):
+    """Return the places (values, slots around them) of a gather at which its test holds.
+
+    The slots around are those of the values on which the gather depends, and perhaps others.
+    """
     places = [(values, around)]
     bound = ()
-    waiting = tests_joined(test)
-    for k, (pattern, source) in enumerate(sources):
+    waiting = tests_joined(e[3])
+    for k, (pattern, source) in enumerate(e[2]):
         places = passed_on(stock, pattern, source, bound, places)
         bound = bound + pattern_names(pattern)
         # A test is looked at as soon as its variables are bound: so less is left for the next sources.
-        later = {name: True for pair in sources[k + 1:] for name in pattern_names(pair[0])}
+        later = {name: True for pair in e[2][k + 1:] for name in pattern_names(pair[0])}
         ready = [t for t in waiting if not any([name in later for name in free_names(t)])]
         waiting = [t for t in waiting if t not in ready]
         places = [place for place in places if all_hold(stock, ready, place[0])]
-    return collected(stock, around, [tree_value(stock, result, inner) for inner, _ in places])
+    return places
 
 
 def passed_on(stock, pattern, source, bound, places):

@@ -36,3 +36,10 @@ def variable_pieces(outcomes, name):
 def pieces_tally(pieces):
     """Return the Tally of the numbers of members."""
     return Tally([(low, Size(members_many(members_in(value)))) for low, _, _, value in pieces])
+
+
+def at_known_pieces(known, pieces, word):
+    """Return the pieces of a family in whose stock one of the others has become the known name word."""
+    regions = [(max(low, 1), high, listed, {"a": value}) for low, high, listed, value in pieces if high != 0]
+    return joined([(low - 1, None if high is None else high - 1, listed, value)
+                   for low, high, listed, value in solved(known, regions, ("named", word))])

@@ -40,6 +40,16 @@ def solved(known, regions, task):
     return found
 
 
+def eventually(known, region, task):
+    """Return what a task gives for all n from some number on; the region has no end."""
+    low, values = region[0], region[3]
+    while True:
+        try:
+            return task_result(alike_stock(known, low, None), task, values)
+        except Split as seam:
+            low = seam.at
+
+
 def joined(pieces):
     """Return pieces of values, as few as the same ones next to each other allow."""
     found = []
@@ -66,6 +76,12 @@ def span_of(known, regions, test):
 def is_always(known, regions, test):
     """Tell whether a test holds at every n."""
     return all([holds for _, _, _, holds in solved(known, regions, ("test", test))])
+
+
+def settled_from(span):
+    """Return the least m such that all n from m on are in the span, which has no end."""
+    outside = ~span
+    return outside.greatest() + 1 if outside else 0
 
 
 def piece_at(pieces, n):

@@ -3,12 +3,16 @@
 The values are those of variables, by their names.
 """
 
+from everyname.barring import first_broken
+from everyname.deriving import derivation, first_not_right, leaving_step
+from everyname.matching import pairing_told
 from everyname.meaning import test_holds, tree_value
 from everyname.naming import named
-from everyname.orbits import ascending, chosen, collected, has, members_in, set_value
+from everyname.orbits import chosen, has, members_in
 from everyname.patterns import reading
-from everyname.ruling import rounds_of
-from everyname.shapes import Stock, known_value, listed_value, mark_value, row_value, slot_value
+from everyname.reckoning import value_of_nodes
+from everyname.ruling import rounds_of, rounds_value, turn_of
+from everyname.shapes import Stock
 from everyname.steps import executed
 
 
@@ -20,34 +24,30 @@ def stock_below(stock, word):
     return Stock(known, None, stock.low - 1, None if stock.high is None else stock.high - 1, 1)
 
 
-def node_value(stock, value, parts):
-    """Return the value of a shown value from those of its parts; the other k has the slot k."""
-    kind, told = value
-    if kind == "known":
-        return known_value(told)
-    if kind == "mark":
-        return mark_value(told)
-    if kind == "other":
-        return slot_value(told) if stock.listed is None else listed_value(told)
-    if kind == "row":
-        return row_value(parts)
-    return set_value(collected(stock, ascending([slot for _, slots in parts for slot in slots]), parts))
-
-
-def value_of_nodes(stock, nodes):
-    """Return the value of a shown value with these nodes (see everyname/values.py)."""
-    found = [()] * len(nodes)
-    for at in range(len(nodes) - 1, -1, -1):
-        value, start, end = nodes[at]
-        found[at] = node_value(stock, value, found[start:end])
-    return found[0]
-
-
 def members_apart(stock, values):
     """Return the orbits of the members of "a" that are none of "b", and those the other way round."""
     left, right = members_in(values["a"]), members_in(values["b"])
     return (list(chosen(stock, left, right, False).orbits.values()),
             list(chosen(stock, right, left, False).orbits.values()))
+
+
+def rule_value(stock, task, values):
+    """Return the family of a rule, or None if it does not come to rest."""
+    rounds = rounds_of(stock, task[1], task[2], task[3], values)
+    return None if rounds is None else rounds_value(rounds)
+
+
+def paper_result(stock, task, values):
+    """Return what a task of papers gives; its items are the name and the clauses of a rule, and what is asked."""
+    tag, name, clauses, asked = task
+    if tag == "leaving":
+        return leaving_step(stock, name, clauses, values)
+    if tag == "follows":
+        return first_not_right(stock, asked[0], name, clauses, values, asked[1], asked[2])
+    # The step that made this rule has found that it rests.
+    rounds = rounds_of(stock, name, clauses, asked[0], values)
+    value = value_of_nodes(stock, asked[1])
+    return turn_of(rounds, value) if tag == "turn" else derivation(stock, name, clauses, values, rounds, value)
 
 
 def task_result(stock, task, values):
@@ -68,4 +68,10 @@ def task_result(stock, task, values):
         return reading(stock, task[1], ()) if stock.listed is None else values["a"]
     if tag == "named":
         return named(stock, stock_below(stock, task[1]), values["a"], 0, task[1])
-    return rounds_of(stock, task[1], task[2], task[3], values)
+    if tag == "shows":
+        return first_broken(stock, task[1], task[2], task[3], values)
+    if tag == "pairing":
+        return pairing_told(stock, task[1], task[2], values)
+    if tag == "rule":
+        return rule_value(stock, task, values)
+    return paper_result(stock, task, values)

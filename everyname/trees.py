@@ -185,3 +185,57 @@ def state_names(rows):
         else:
             found = {**found, row[1]: True, **free_names(row[2])}
     return found
+
+
+def bound_names(tree):
+    """Return the variables that patterns in a tree bind, at any depth, as the keys of a dict."""
+    found = {}
+    if tree[0] in ("some", "every"):
+        found = {name: True for name in pattern_names(tree[1])}
+    elif tree[0] == "gather":
+        found = {name: True for pattern, _ in tree[2] for name in pattern_names(pattern)}
+    for part in inner_trees(tree):
+        found = {**found, **bound_names(part)}
+    return found
+
+
+def inner_trees(tree):
+    """Return the expressions, tests and numbers directly inside a tree."""
+    if tree[0] == "gather":
+        return [tree[1]] + [source for _, source in tree[2]] + [tree[3]]
+    if tree[0] in ("some", "every"):
+        return [tree[2], tree[3]]
+    return [part for part in tree[1:] if isinstance(part, tuple)]
+
+
+def names_in(tree):
+    """Return the variables of a tree, bound ones and others, as the keys of a dict."""
+    return {**free_names(tree), **bound_names(tree)}
+
+
+def trees_in(rows):
+    """Return the expressions and tests of statements and of those inside them."""
+    found = []
+    for row in rows:
+        found.append(row[1] if row[0] in ("if", "while") else row[2])
+        for inner in inner_rows(row):
+            found.extend(trees_in(inner))
+    return found
+
+
+def assigned_names(rows):
+    """Return the variables that statements assign, executed or not, as the keys of a dict."""
+    found = {}
+    for row in rows:
+        if row[0] not in ("if", "while"):
+            found[row[1]] = True
+        for inner in inner_rows(row):
+            found = {**found, **assigned_names(inner)}
+    return found
+
+
+def reads_name(tree, name):
+    """Tell whether a variable of this name stands in a tree, bound or not."""
+    if tree[0] == "var":
+        return tree[1] == name
+    return any([reads_name(part, name) for part in inner_trees(tree)])

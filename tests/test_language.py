@@ -62,6 +62,8 @@ def bound_names(tree):
 
 
 CHANGING = set("""append clear extend insert pop remove reverse setdefault update sort add discard""".split())
+# Methods of a world and of its attempts that change it or call what they are passed.
+CHANGING_METHODS = {"_done", "undo", "attempt", "keep"}
 IN_PLACE = {f"__{word}__" for word in BINARY if word[0] == "i"} | {"__setitem__", "__init__"}
 
 
@@ -94,7 +96,7 @@ def is_new(node):
     if isinstance(node, ast.BinOp):
         return is_new(node.left) and (is_new(node.right) or isinstance(node.op, ast.Mult))
     if isinstance(node, ast.Call):
-        return ast.unparse(node.func) in ("list", "dict", "set", "sorted", "defaultdict", "Family")
+        return ast.unparse(node.func) in ("list", "dict", "set", "sorted", "defaultdict", "Family", "World")
     return isinstance(node, (ast.List, ast.Dict, ast.ListComp, ast.DictComp, ast.Set, ast.SetComp))
 
 
@@ -246,10 +248,32 @@ class LanguageTest(unittest.TestCase):
                         if isinstance(node.op, ast.Pow) and not isinstance(node.right, ast.Constant))
         self.assertNone((file, node) for file, node in nodes(ast.ExceptHandler) if node.type is None)
 
+    def test_methods_that_change_are_run_by_no_operator(self):
+        """L5 Operators: neither an operator nor a property runs one of CHANGING_METHODS, told by their names."""
+        calls, waiting = {}, []
+        for _, function in nodes(ast.FunctionDef):
+            found = calls.setdefault(function.name, set())
+            for node in ast.walk(function):
+                if isinstance(node, ast.Attribute):
+                    found.add(node.attr)
+                elif isinstance(node, ast.Call) and isinstance(node.func, ast.Name):
+                    found.add(node.func.id)
+            is_operator = function.name in {f"__{word}__" for word in BINARY | UNARY | {"contains", "getitem"}} - IN_PLACE
+            if is_operator or any(ast.unparse(part) == "property" for part in function.decorator_list):
+                waiting.append(function.name)
+        reached = set()
+        while waiting:
+            name = waiting.pop()
+            if name not in reached:
+                reached.add(name)
+                waiting.extend(calls.get(name, ()))
+        self.assertIn("tree_value", reached)
+        self.assertEqual(reached & CHANGING_METHODS, set())
+
     def test_functions_change_what_they_made_alone(self):
-        """L5 Operators: what operators and properties run changes no other thing (here: nothing does)."""
+        """L5 Operators: what operators and properties run changes no other thing (here: little else does)."""
         for file, function in nodes(ast.FunctionDef):
-            if function.name in IN_PLACE:
+            if function.name in IN_PLACE | CHANGING_METHODS:
                 continue
             for name, line in changed_names(function):
                 worths = [node.value for node in ast.walk(function) if isinstance(node, (ast.Assign, ast.AugAssign))
@@ -261,6 +285,8 @@ class LanguageTest(unittest.TestCase):
     def test_functions_call_nothing_that_they_are_passed(self):
         """L5 Operators"""
         for file, function in nodes(ast.FunctionDef):
+            if function.name in CHANGING_METHODS:
+                continue
             local = set(bound_names(function.args)) | {name for part in function.body for name in bound_names(part)}
             for node in ast.walk(function):
                 if isinstance(node, ast.Call) and isinstance(node.func, ast.Name):
@@ -299,6 +325,8 @@ class LanguageTest(unittest.TestCase):
     def test_names(self):
         """L8, L12, L15, L17"""
         python_names = set(dir(__builtins__)) if not isinstance(__builtins__, dict) else set(__builtins__)
+        # Where a doctest was run before, Python has the name _, too.
+        python_names.discard("_")
         for file in FILES:
             tree = ast.parse(file.read_text())
             bound = set(bound_names(tree))
