@@ -1,5 +1,6 @@
 """What several test files use: reading trees, and checking what is raised."""
 
+import itertools
 import unittest
 
 import plain
@@ -42,6 +43,36 @@ def as_shown(value):
     if value[0] in ("row", "set"):
         return (value[0], tuple(map(as_shown, value[1])))
     return value
+
+
+def filled(slots, many, n):
+    """The fillings of many further slots."""
+    free = [k for k in range(1, n + 1) if k not in slots]
+    return [slots + further for further in itertools.permutations(free, many)]
+
+
+def read(pattern, slots, n):
+    """The reading of a pattern, by plain loops."""
+    kind, told = pattern
+    if kind == "slot":
+        return ("other", slots[told])
+    if kind == "row":
+        return ("row", tuple(read(part, slots, n) for part in told))
+    if kind == "set":
+        return ("set", frozenset(read(p, longer, n) for k, p in told for longer in filled(slots, k, n)))
+    return pattern
+
+
+def sets_in(pattern, many=0):
+    """The items of each set in a pattern, with the number of slots around it."""
+    kind, told = pattern
+    if kind == "row":
+        for part in told:
+            yield from sets_in(part, many)
+    elif kind == "set":
+        yield many, told
+        for k, p in told:
+            yield from sets_in(p, many + k)
 
 
 class RaisingTestCase(unittest.TestCase):

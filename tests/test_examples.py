@@ -5,12 +5,14 @@ import unittest
 from everyname.families import Family
 from everyname.forms import form
 from everyname.groups import compose
+from everyname.picks import picks
 from everyname.programs import Program
 from everyname.runs import run
 from everyname.sizes import Size
 from everyname.stretches import Courses
 from everyname.tallies import where
 from everyname.values import renumbered, value_text
+from everyname.world import World
 from helpers import RaisingTestCase
 
 
@@ -50,6 +52,16 @@ class ExamplesTest(RaisingTestCase):
         self.assertEqual([(A | B).sizes(2), (A | B).sizes.settles, (A | B).sizes.last.row], [2, 3, (0, 2)])
         F = form(A)
         self.assertEqual([F.start, F.sorts, F.groups, F.size.row], [0, ((1, 1),), (((0,),),), (0, 1)])
+        two = Family.of((), ("gather", ("set", ("var", "u"), ("var", "v")), (("u", ("all",)), ("v", ("all",))),
+                             ("not", ("same", ("var", "u"), ("var", "v")))))
+        self.assertEqual([picks(two).found, picks(two).pairs, picks(two).stuck.side], [False, None, "left"])
+
+    def test_worlds(self):
+        w = World(("ann",))
+        w["link"] = ("gather", ("row", ("known", "ann"), ("var", "u")), (("u", ("all",)),), ("not", ("same", ("var", "u"), ("known", "ann"))))
+        self.assertEqual([w["link"].count(4), len(w), "link" in w, w.names], [4, 1, True, ("ann",)])
+        self.assertRaisesJust("Broken", {"name": "few", "n": 5}, w.guard, "few",
+                              ("compare", ("count", ("var", "link")), "<", ("whole", 5)))
 
     def test_groups(self):
         self.assertEqual(compose((1, 0, 2), (0, 2, 1)), (1, 2, 0))

@@ -10,7 +10,7 @@ from everyname.groups import generated
 from everyname.programs import Program
 from everyname.sizes import Size
 from everyname.spans import Span
-from helpers import FAR, FARTHER, RaisingTestCase, family
+from helpers import FAR, FARTHER, RaisingTestCase, family, filled, read, sets_in
 from samples import POOL, mixed
 
 BUT = "{{v for v in all if not (v == u)} for u in all}"
@@ -21,38 +21,8 @@ ROTATED = "{{[u, v], [v, w], [w, u]} for u in all for v in all for w in all if (
 TWO_PAIRS = ("{{{u, v}, {w, x}} for [u, v] in p for [w, x] in p if (count({u, v, w, x}) == 4)}")
 
 
-def filled(slots, many, n):
-    """The fillings of many further slots."""
-    free = [k for k in range(1, n + 1) if k not in slots]
-    return [slots + further for further in itertools.permutations(free, many)]
-
-
-def read(pattern, slots, n):
-    """The reading of a pattern, by plain loops."""
-    kind, told = pattern
-    if kind == "slot":
-        return ("other", slots[told])
-    if kind == "row":
-        return ("row", tuple(read(part, slots, n) for part in told))
-    if kind == "set":
-        return ("set", frozenset(read(p, longer, n) for k, p in told for longer in filled(slots, k, n)))
-    return pattern
-
-
 def same(pattern, f, g, n):
     return read(pattern, f, n) == read(pattern, g, n)
-
-
-def sets_in(pattern, many=0):
-    """The items of each set in a pattern, with the number of slots around it."""
-    kind, told = pattern
-    if kind == "row":
-        for part in told:
-            yield from sets_in(part, many)
-    elif kind == "set":
-        yield many, told
-        for k, p in told:
-            yield from sets_in(p, many + k)
 
 
 class FormTestCase(RaisingTestCase):

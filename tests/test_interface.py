@@ -1,4 +1,4 @@
-"""The interface of the document, as far as it is written: names, arguments and where they are defined."""
+"""The interface of the document: names, arguments and where they are defined."""
 
 import importlib
 import inspect
@@ -43,10 +43,19 @@ CLASSES = {
     ("everyname.forms", "Form"): {
         "sorts": None, "size": None, "text": None, "__len__": "(self)", "__call__": "(self, n, most=200)", "family": "(self)",
         "__eq__": OTHER},
+    ("everyname.pairings", "Answer"): {},
+    ("everyname.pairings", "Stuck"): {
+        "__init__": "(self, side, crowd, fewer, moves)", "shows": "(self, x, y, n, *, one=False, onto=False, within=None)"},
+    ("everyname.world", "World"): {
+        "__init__": "(self, known=())", "read": "(page)", "names": None, "page": None, "allowed": None, "do": "(self, program)",
+        "__getitem__": "(self, at)", "__setitem__": "(self, at, worth)", "__contains__": "(self, x)", "__len__": "(self)",
+        "__eq__": OTHER, "rule": "(self, name, clauses)", "guard": "(self, name, test, before=())", "drop": "(self, name)",
+        "breaks": "(self, program)", "span": "(self, test)", "know": "(self, word)", "allow": "(self, k)", "undo": "(self)",
+        "past": "(self, k)", "attempt": "(self, action)", "values_at": "(self, n)"},
 }
 KINDS = {"through": classmethod, "falling": staticmethod, "single": staticmethod, "since": staticmethod,
          "until": staticmethod, "joined": classmethod, "read": classmethod, "of": classmethod,
-         **{name: property for name in ("degree", "settles", "last", "text", "sizes", "sorts", "size")}}
+         **{name: property for name in ("degree", "settles", "last", "text", "sizes", "sorts", "size", "names", "page", "allowed")}}
 FUNCTIONS = {
     "everyname.tallies": {"where": "(a, sign, b)"},
     "everyname.values": {"value_text": "(value)", "same_value": "(a, b)", "others_in": "(value)", "members_of": "(value)",
@@ -55,6 +64,10 @@ FUNCTIONS = {
     "everyname.stretches": {"alike": "(program, other, *, most=60)"},
     "everyname.groups": {"compose": "(p, q)", "inverse": "(p)", "generated": "(size, rows)", "conjugate": "(first, second)"},
     "everyname.forms": {"form": "(family)"},
+    "everyname.pairings": {"pairing": "(x, y, *, one=False, onto=False, within=None)"},
+    "everyname.picks": {"picks": "(s)"},
+    "everyname.papers": {"why": "(world, name, n, value)", "follows": "(world, name, n, value, paper)",
+                         "turn": "(world, name, n, value)", "leaves": "(world, name, family)"},
 }
 
 
@@ -79,6 +92,10 @@ class InterfaceTest(unittest.TestCase):
                 self.assertEqual(made(module, name).__module__, module)
                 self.assertEqual(str(inspect.signature(made(module, name))), arguments, name)
 
+    def test_trials_keep(self):
+        found = made("everyname.world", "World")().attempt(lambda world, trial: trial)
+        self.assertEqual(str(inspect.signature(found.keep)), "()")
+
     def test_attributes_are_set_when_an_object_is_made(self):
         program = made("everyname.programs", "Program")()
         for thing, attributes in (
@@ -90,7 +107,11 @@ class InterfaceTest(unittest.TestCase):
                 (made("everyname.stretches", "Courses")(program)[0], {"lo", "hi", "course", "end", "entry", "length", "rounds"}),
                 (made("everyname.families", "Family").of((), ("all",)), {"known"}),
                 (made("everyname.forms", "form")(made("everyname.families", "Family").of((), ("all",))),
-                 {"known", "pattern", "start", "groups", "depends"})):
+                 {"known", "pattern", "start", "groups", "depends"}),
+                (made("everyname.pairings", "Stuck")("left", (), (), ()), {"side", "crowd", "fewer", "moves"}),
+                (made("everyname.picks", "picks")(made("everyname.families", "Family").of((), ("all",))),
+                 {"found", "pairs", "start", "stuck"}),
+                (made("everyname.world", "World")(), set())):
             self.assertEqual({name for name in vars(thing) if not name.startswith("_")}, attributes)
 
 
