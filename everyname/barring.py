@@ -14,7 +14,7 @@ def are_items(stock, items, members):
     for item in items:
         if first_names(stock, item[0]) is None:
             return False
-        inner = items_members(stock, (item,), ())
+        inner = items_members(stock, (item,))
         if not is_within(stock, inner, members) or any([bool(chosen(stock, inner, one, True).orbits) for one in found]):
             return False
         found.append(inner)
@@ -38,8 +38,8 @@ def has_moves(stock, stuck, values):
     """Tell whether there is a move for each two partners of which just the near one is in the crowd and fewer."""
     side, crowd, fewer, moves = stuck
     far = members_in(values["y" if side == "left" else "x"])
-    spared = items_members(stock, fewer, ())
-    rows = items_members(stock, tuple([(k, ("row", (a, b))) for k, a, b, _ in moves]), ())
+    spared = items_members(stock, fewer)
+    rows = items_members(stock, tuple([(k, ("row", (a, b))) for k, a, b, _ in moves]))
     within = members_in(values["w"]) if "w" in values else None
     for many, pattern in crowd:
         # What holds for one reading of an item holds for all: they differ by a renaming alone.

@@ -87,9 +87,10 @@ def grown_tree(start, edges, matched):
     parents = {}
     at = 0
     while at < len(reached):
-        for end in edges[reached[at]]:
+        origin = reached[at]
+        for end in edges[origin]:
             if end not in parents:
-                parents[end] = reached[at]
+                parents[end] = origin
                 if end not in matched:
                     return reached, parents, end
                 reached.append(matched[end])
@@ -175,7 +176,7 @@ def move_told(pair, one):
 def items_told(value, indexes):
     """Return the items of the orbits with these indexes."""
     orbits = list(members_in(value).orbits.values())
-    return tuple([item_of(orbits[k], 0) for k in indexes])
+    return tuple([item_of(orbits[k]) for k in indexes])
 
 
 def bar_told(values, bar, partners, one):

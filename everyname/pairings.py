@@ -9,17 +9,9 @@ from everyname.regions import eventually, region_at, settled_from, solved, span_
 from everyname.shapes import orbit
 from everyname.spans import Span
 
-X = ("var", "x")
-Y = ("var", "y")
-PAIRS = ("var", "m")
+# The first and the second parts of the rows of two values in m.
 FIRSTS = ("gather", ("var", "a"), ((("a", "b"), ("var", "m")),), ("true",))
 SECONDS = ("gather", ("var", "b"), ((("a", "b"), ("var", "m")),), ("true",))
-# These hold where rows of two values, the members of m, are a pairing of x and y.
-PAIRING = (("within", FIRSTS, X), ("within", X, FIRSTS), ("within", SECONDS, Y),
-           ("compare", ("count", FIRSTS), "==", ("count", PAIRS)))
-ONE = ("compare", ("count", SECONDS), "==", ("count", PAIRS))
-ONTO = ("within", Y, SECONDS)
-WITHIN = ("within", PAIRS, ("var", "w"))
 
 
 def check_stocks(x, y, within):
@@ -35,18 +27,25 @@ def tables_of(x, y, within):
     return found if within is None else {**found, "w": within._pieces}
 
 
+def pairing_tests(one, onto, bounded):
+    """Return tests that hold where the members of m, rows of two values, are a pairing of x and y."""
+    x, y, m = ("var", "x"), ("var", "y"), ("var", "m")
+    tests = [("within", FIRSTS, x), ("within", x, FIRSTS), ("within", SECONDS, y),
+             ("compare", ("count", FIRSTS), "==", ("count", m))]
+    if one:
+        tests.append(("compare", ("count", SECONDS), "==", ("count", m)))
+    if onto:
+        tests.append(("within", y, SECONDS))
+    if bounded:
+        tests.append(("within", m, ("var", "w")))
+    return tests
+
+
 def pairing_span(known, tables, one, onto):
     """Return the Span of all n at which the rows in m are a pairing."""
-    tests = list(PAIRING)
-    if one:
-        tests.append(ONE)
-    if onto:
-        tests.append(ONTO)
-    if "w" in tables:
-        tests.append(WITHIN)
-    span = Span.since(0)
     regions = together(tables)
-    for test in tests:
+    span = Span.since(0)
+    for test in pairing_tests(one, onto, "w" in tables):
         span = span & span_of(known, regions, test)
     return span
 

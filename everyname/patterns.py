@@ -1,7 +1,8 @@
 """Patterns: nested tuples that describe values by slots, which stand for others.
 
 A pattern is ("known", word), ("mark", word), ("slot", i), ("row", parts) or ("set", items) with items (k, p),
-where p is a pattern over k more slots than there are around the set.
+where p is a pattern over k more slots than there are around the set. Patterns and values are gone through
+by lists of their parts instead of by calls in calls, so that they may be nested as deep as they like.
 """
 
 from everyname.orbits import ascending, collected, filled, members_in, orders_of, set_value, spread_freely
@@ -9,25 +10,55 @@ from everyname.shapes import (at_least, known_value, listed_value, mark_value, o
                               slot_value)
 
 
-def pattern_of(value, many):
-    """Return the pattern over so many slots that reads as the value; the value's slots are those of the pattern."""
+def item_part(orbit, many):
+    """Return (k, value, slots) for an orbit around so many slots: a member of it, over k more slots."""
+    shape, slots = orbit
+    own = own_many(slots)
+    return (own, placed(shape, filled(slots, tuple(range(many, many + own)))), many + own)
+
+
+def pattern_parts(value, many):
+    """Return such triples for the parts of a row and for the orbits of a set, over so many slots."""
+    kind = value[0].kind
+    if kind == "row":
+        return [(0, part, many) for part in row_parts(value)]
+    if kind != "set":
+        return []
+    # The own slots of an item stand for others that none of the slots around stands for.
+    members = spread_freely(members_in(value), tuple(range(many)))
+    return [item_part(orbit, many) for orbit in members.orbits.values()]
+
+
+def pattern_told(value, items):
+    """Return the pattern that reads as a value, from pairs (k, pattern) for its parts."""
     shape, slots = value
     if shape.kind == "leaf":
         return shape.parts
     if shape.kind == "slot":
         return ("slot", slots[0])
-    if shape.kind == "row":
-        return ("row", tuple([pattern_of(part, many) for part in row_parts(value)]))
-    # The own slots of an item stand for others that none of the slots around stands for.
-    members = spread_freely(members_in(value), tuple(range(many)))
-    return ("set", tuple([item_of(orbit, many) for orbit in members.orbits.values()]))
+    return (shape.kind, tuple([pattern for _, pattern in items]) if shape.kind == "row" else tuple(items))
 
 
-def item_of(orbit, many):
-    """Return the item that reads as an orbit around so many slots."""
-    shape, slots = orbit
-    own = own_many(slots)
-    return (own, pattern_of(placed(shape, filled(slots, tuple(range(many, many + own)))), many + own))
+def pattern_of(value, many):
+    """Return the pattern over so many slots that reads as the value; the value's slots are those of the pattern."""
+    waiting = [(0, value, many)]
+    places = []
+    while len(places) < len(waiting):
+        _, inner, around = waiting[len(places)]
+        parts = pattern_parts(inner, around)
+        places.append((len(waiting), len(waiting) + len(parts)))
+        waiting.extend(parts)
+    found = [()] * len(waiting)
+    for at in range(len(waiting) - 1, -1, -1):
+        start, end = places[at]
+        found[at] = (waiting[at][0], pattern_told(waiting[at][1], found[start:end]))
+    return found[0][1]
+
+
+def item_of(orbit):
+    """Return the item over no slots that reads as an orbit around no slots."""
+    own, value, many = item_part(orbit, 0)
+    return (own, pattern_of(value, many))
 
 
 def slot_names(numbers):
@@ -54,8 +85,18 @@ def first_names(stock, many):
     return slot_names(list(range(many))) if at_least(stock, many) else None
 
 
-def reading(stock, pattern, names):
-    """Return the value as which a pattern reads when these others are assigned to its slots."""
+def reading_parts(stock, pattern, names):
+    """Return a pair (pattern, names) for each value of which the reading of a pattern is made."""
+    kind, told = pattern
+    if kind == "row":
+        return [(part, names) for part in told]
+    if kind != "set":
+        return []
+    return [(inner, names + further) for many, inner in told for further in further_names(stock, names, many)]
+
+
+def reading_told(stock, pattern, names, values):
+    """Return the value as which a pattern reads, from those of its parts."""
     kind, told = pattern
     if kind == "known":
         return known_value(told)
@@ -64,14 +105,26 @@ def reading(stock, pattern, names):
     if kind == "slot":
         return names[told]
     if kind == "row":
-        return row_value([reading(stock, part, names) for part in told])
-    return set_value(items_members(stock, told, names))
+        return row_value(values)
+    return set_value(collected(stock, ascending([slot for _, slots in names for slot in slots]), values))
 
 
-def items_members(stock, items, names):
-    """Return all readings of items as the members of a set."""
-    found = []
-    for many, pattern in items:
-        for further in further_names(stock, names, many):
-            found.append(reading(stock, pattern, names + further))
-    return collected(stock, ascending([slot for _, slots in names for slot in slots]), found)
+def reading(stock, pattern, names):
+    """Return the value as which a pattern reads when these others are assigned to its slots."""
+    waiting = [(pattern, names)]
+    places = []
+    while len(places) < len(waiting):
+        inner, assigned = waiting[len(places)]
+        parts = reading_parts(stock, inner, assigned)
+        places.append((len(waiting), len(waiting) + len(parts)))
+        waiting.extend(parts)
+    found = [()] * len(waiting)
+    for at in range(len(waiting) - 1, -1, -1):
+        start, end = places[at]
+        found[at] = reading_told(stock, waiting[at][0], waiting[at][1], found[start:end])
+    return found[0]
+
+
+def items_members(stock, items):
+    """Return all readings of items over no slots as the members of a set."""
+    return members_in(reading(stock, ("set", items), ()))

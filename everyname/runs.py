@@ -49,7 +49,7 @@ class Run:
         self._state = outcome.state
         self.end = outcome.end
         self.entry = outcome.entry
-        self.length = outcome.length()
+        self.length = outcome.round_length()
         self.rounds = outcome.rounds
         self.course = outcome.course
 

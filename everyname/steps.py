@@ -15,13 +15,13 @@ class Outcome:
         self.course = course
         self.state = state
 
-    def length(self):
+    def round_length(self):
         """Return the number of while tests from the entry of a round on, or None."""
         return None if self.entry is None else self.rounds - self.entry
 
     def way(self):
         """Return what tells one way to run from another."""
-        return (self.course, self.end, self.entry, self.length())
+        return (self.course, self.end, self.entry, self.round_length())
 
 
 def steps_of(rows, start=0):

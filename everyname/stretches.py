@@ -15,7 +15,7 @@ class Stretch:
         self.course = outcome.course
         self.end = outcome.end
         self.entry = outcome.entry
-        self.length = outcome.length()
+        self.length = outcome.round_length()
         self.rounds = outcome.rounds
 
     def __contains__(self, x):

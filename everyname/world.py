@@ -91,6 +91,14 @@ def are_same(known, pieces, others):
     return is_always(known, together({"a": pieces, "b": others}), ("same", ("var", "a"), ("var", "b")))
 
 
+def are_same_worlds(now, then):
+    """Tell whether two moments have the same known names, families, number allowed, rules and guards."""
+    if (now.known, now.limit, now.rules, now.guards) != (then.known, then.limit, then.rules, then.guards):
+        return False
+    names = {**now.told, **then.told, **now.ruled}
+    return all([are_same(now.known, family_pieces(now, name), family_pieces(then, name)) for name in names])
+
+
 def set_at(rows, place, row):
     """Return the rows with another one at a place, which may be behind the last one."""
     return rows[:place] + (row,) + rows[place + 1:]
@@ -299,10 +307,4 @@ class World:
         return len(self._steps)
 
     def __eq__(self, other):
-        if not isinstance(other, World):
-            return False
-        now, then = self._now(), other._now()
-        if (now.known, now.limit, now.rules, now.guards) != (then.known, then.limit, then.rules, then.guards):
-            return False
-        names = {**now.told, **then.told, **now.ruled}
-        return all([are_same(now.known, family_pieces(now, name), family_pieces(then, name)) for name in names])
+        return isinstance(other, World) and are_same_worlds(self._now(), other._now())
