@@ -1,5 +1,6 @@
 """Families: a value for every n."""
 
+from everyname.amounts import weight_at
 from everyname.checks import check_from, check_same_stock
 from everyname.errors import BadProgram, BadValue
 from everyname.orbits import members_in, members_many
@@ -17,6 +18,7 @@ from everyname.words import is_free_word
 
 MOST = 60
 FEW = 3
+LISTABLE = 20000
 LEFT = ("var", "a")
 RIGHT = ("var", "b")
 
@@ -80,8 +82,8 @@ class Family:
         check_from(n, 0)
         nodes, _, others = checked_nodes(value, self.known, n)
         region = region_at(own_regions(self), n)
-        # The orders of many others are gone through one by one; so a short list of all others is quicker.
-        if not region[2] and FEW < len(others) and n <= 2 * len(others):
+        # The orders of many others are gone through one by one; so it is quicker to list a small family.
+        if not region[2] and FEW < len(others) and weight_at(region[3]["a"], n) <= LISTABLE:
             region = listed_region(n, region[3])
         return solved(self.known, [region], ("has", nodes))[0][3]
 

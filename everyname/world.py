@@ -86,6 +86,13 @@ def words_used(moment):
     return found
 
 
+def is_told(moment, name):
+    """Tell whether name is the name of a rule, or of a told family that has a member at some n."""
+    if name in moment.ruled:
+        return True
+    return name in moment.told and any([bool(members_in(piece[3]).orbits) for piece in moment.told[name]])
+
+
 def are_same(known, pieces, others):
     """Tell whether two families have the same value at every n."""
     return is_always(known, together({"a": pieces, "b": others}), ("same", ("var", "a"), ("var", "b")))
@@ -295,10 +302,7 @@ class World:
         self.do(Program(self.names, (row,)))
 
     def __contains__(self, x):
-        now = self._now()
-        if not isinstance(x, str) or x in now.ruled:
-            return isinstance(x, str)
-        return x in now.told and any([bool(members_in(piece[3]).orbits) for piece in now.told[x]])
+        return isinstance(x, str) and is_told(self._now(), x)
 
     def __iter__(self):
         raise TypeError("a world is not iterated over")

@@ -91,9 +91,9 @@ class End(Exception):
 class PlainRun:
     """A run by plain loops, with the attributes of a Run and state."""
 
-    def __init__(self, known, statements, variables, n, most=60):
+    def __init__(self, known, statements, variables, n, most=60, start=None):
         self.plain = Plain(known, n)
-        self.state = {name: EMPTY for name in variables}
+        self.state = {**{name: EMPTY for name in variables}, **(start or {})}
         self.course = []
         self.rounds = 0
         self.most = most

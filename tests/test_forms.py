@@ -121,6 +121,13 @@ class PatternsTest(FormTestCase):
             self.assertEqual((found.pattern, found.groups, found.sorts, found.start, found.size, len(found)),
                              (pattern, (), (), 0, Size(), 0))
 
+    def test_deep_values(self):
+        for rows, depends in ((("y = {y, ann}",), ("ann",)), (("y = [y, all]",), ()), (("y = {y}",), ())):
+            given = Program.read("\n".join(("known ann", "while (count(x) < 55):", "  x |= {z}", "  z = {z}") + tuple("  " + row for row in rows)))
+            found = form(Family(given, ("var", "y")))
+            self.assertEqual((found.start, found.depends), (0, depends))
+            self.assertEqual(found.family(), Family(given, ("var", "y")))
+
     def test_own_slots_that_may_be_exchanged(self):
         found = self.assertForm(family(ROTATED), 5)
         self.assertEqual(found.sorts, ((3, 3),))

@@ -85,6 +85,24 @@ class RowsTest(StretchesTestCase):
         self.assertEqual([(row.lo, row.hi) for row in found], [(0, 10 ** 30 - 1), (10 ** 30, None)])
         self.assertIsDivided(given, found)
 
+    def test_seams_beyond_the_greatest_number_of_a_program(self):
+        great = "(1" + "0" * 60 + " * 1" + "0" * 60 + ")"
+        given = program("x = all", f"if (count(x) == {great}):", "  y = x", f"if ((count(x) * count(x)) > ({great} + count(x))):", "  z = x", known="known")
+        found = Courses(given)
+        self.assertEqual([(row.lo, row.hi, row.course) for row in found], [
+            (0, FAR, (False, False)), (FAR + 1, FAR ** 2 - 1, (False, True)), (FAR ** 2, FAR ** 2, (True, True)), (FAR ** 2 + 1, None, (False, True))])
+        self.assertIsDivided(given, found)
+        self.assertEqual(found.least(check("(count(y) == 0)")), FAR ** 2)
+        self.assertEqual(found.tally("y").highest(), (FAR ** 2, FAR ** 2))
+
+    def test_seams_next_to_each_other(self):
+        for number in (2, 9, 10 ** 30):
+            rows = [f"if (count(all) == {number + k}):" if k != 1 else f"if (count(all) >= {number + 1}):" for k in range(4)]
+            given = program(*(line for k, row in enumerate(rows) for line in (row, f"  x = {{[{', '.join(['[]'] * k)}]}}")), known="known")
+            found = Courses(given)
+            self.assertEqual([row.lo for row in found], [0] + [number + k for k in range(5)])
+            self.assertIsDivided(given, found)
+
     def test_many_stretches(self):
         given = program("while (count(y) < count(all)):", "  y |= {[x]}", "  x = {x}", known="known")
         found = Courses(given, most=9)

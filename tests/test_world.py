@@ -6,6 +6,7 @@ import unittest
 import plain
 from everyname.errors import Broken, EverynameError
 from everyname.families import Family
+from everyname.forms import form
 from everyname.programs import Program
 from everyname.spans import Span
 from everyname.values import same_value
@@ -527,6 +528,16 @@ class KnowTest(WorldTestCase):
         world.undo(), world.undo()
         self.assertEqual(world.names, ("ann",))
         self.assertEqual(world["y"], before["y"])
+
+    def test_deep_values(self):
+        world = World()
+        world.allow(1000)
+        world.do(program("y = all", "while (count(x) < 700):", "  x |= {z}", "  z = {z}", "  y = {y}", known="known"))
+        before = world["y"]
+        world.know("ann")
+        self.assertEqual(world["y"], before.at_known("ann"))
+        self.assertEqual(form(world["y"]).depends, ())
+        self.assertRaisesJust("TooMany", 700 + 3, world["y"], 2)
 
     def test_what_was_at_stock_0_is_gone(self):
         world = World()
