@@ -22,9 +22,14 @@ class Members:
         self.needs = needs
 
 
+def keyed_members(around, orbits):
+    """Return the members with these orbits, which stand by their keys."""
+    return Members(around, orbits, needs_of(list(orbits.values())))
+
+
 def made_members(around, values):
     """Return the members with these orbits."""
-    return Members(around, {key_of(value): value for value in values}, needs_of(values))
+    return keyed_members(around, {key_of(value): value for value in values})
 
 
 def ascending(slots):
@@ -139,13 +144,13 @@ def side_by_side(stock, members, others):
 def union(stock, members, others):
     """Return the members of one of two sets or of both."""
     left, right = side_by_side(stock, members, others)
-    return made_members(left.around, list(left.orbits.values()) + list(right.orbits.values()))
+    return keyed_members(left.around, {**left.orbits, **right.orbits})
 
 
 def chosen(stock, members, others, inside):
     """Return those of the members that are (or, if inside is False, are not) among the others."""
     left, right = side_by_side(stock, members, others)
-    return made_members(left.around, [value for key, value in left.orbits.items() if (key in right.orbits) == inside])
+    return keyed_members(left.around, {key: left.orbits[key] for key in left.orbits if (key in right.orbits) == inside})
 
 
 def is_same(stock, value, other):
@@ -281,8 +286,17 @@ def set_needs(members, table):
     return (((len(members.around), own),), tuple(each))
 
 
+def plain_set(members):
+    """Return the set with these members, on which no slots stand."""
+    key = "{0; " + ", ".join(sorted([str(shape.key) for shape, _ in members.orbits.values()])) + "}"
+    needs = set_needs(members, {})
+    return (Shape("set", key, ((),), members.orbits, needs, members.needs), ())
+
+
 def set_value(members):
     """Return the set with these members."""
+    if not members.around and not any([slots for _, slots in members.orbits.values()]):
+        return plain_set(members)
     members = least_around(members)
     table, orders = least_labelled(members)
     key = "{" + str(len(members.around)) + "; " + ", ".join(table) + "}"

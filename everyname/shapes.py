@@ -141,7 +141,7 @@ def joined_needs(several):
     """
     outer = {}
     inner = {}
-    for needs in several:
+    for needs in {needs: True for needs in several}:
         for pair in needs[0]:
             outer[pair] = True
         for pair in needs[1]:
