@@ -114,8 +114,6 @@ def matching(many, edges):
             before = [other for other in matched if matched[other] == origin]
             matched[end] = origin
             end = before[0] if before else None
-            if end is not None:
-                del matched[end]
     return matched, None
 
 

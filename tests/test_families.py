@@ -384,6 +384,9 @@ class ApartTest(FamilyTestCase):
         big = family("{all, {[u, v] for u in all for v in all}}").only(Span.since(FAR))
         self.assertRaisesJust("TooMany", FAR, big.apart, b)
         self.assertRaisesJust("TooMany", FAR, (big ^ family("{{[u] for u in all}}").only(Span.single(FAR))).apart, big)
+        whole = family("{all}")
+        self.assertEqual(len(whole.only(Span.since(200)).apart(family("{}"))[1][1]), 200)
+        self.assertRaisesJust("TooMany", 201, whole.only(Span.since(201)).apart, family("{}"))
         # The smaller one of what each of the two lacks is found.
         small = family("{'a'}").only(Span.single(FAR))
         self.assertEqual(big.apart(small), (FAR, ("mark", "a"), False))

@@ -241,6 +241,15 @@ class AnswersTest(PairingsTestCase):
         found = pairing(bars, family("all"))
         self.assertEqual((found.found, found.start, found.stuck.shows(bars, family("all"), FAR - 1)), (False, FAR, 1))
 
+    def test_start_where_within_begins(self):
+        same = family("{[u, u] for u in all}")
+        for span, start in ((Span.since(0), 0), (Span.since(3), 3), (~Span.single(FAR), FAR + 1)):
+            for kind in KINDS:
+                found = self.assertAnswer(family("all"), family("all"), within=same.only(span), most=4, **kind)
+                self.assertEqual((found.found, found.start), (True, start))
+        found = pairing(family("all"), family("all"), within=same.only(Span.until(FAR)))
+        self.assertEqual((found.found, found.start), (False, FAR + 1))
+
     def test_one_to_one_needs_the_same_renamings_on_both_sides(self):
         found = self.assertAnswer(family(ROW), family(TWO), one=True)
         self.assertEqual((found.found, found.stuck.side), (False, "left"))

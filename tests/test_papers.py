@@ -179,6 +179,17 @@ class WhyTest(PapersTestCase):
         self.assertEqual(len(paper), 101)
         self.assertPaper(world, "r", FARTHER, value, paper)
 
+    def test_others_that_are_left(self):
+        # At n = 2, there is just one other besides the one in the value.
+        world = World()
+        world.rule("r", clauses("{u for u in all for v in all if not (u == v)}", "{[u, v, w] for u in all for v in all for w in all if "
+                                "((not (u == v) and not (v == w)) and not (u == w))}", known=()))
+        for one, other in ((ONE, TWO), (TWO, ONE)):
+            self.assertEqual(why(world, "r", 2, one), ((one, 0, (one, other)),))
+        three = row(*(("other", k) for k in (3, 1, 2)))
+        self.assertPaper(world, "r", 3, three, why(world, "r", 3, three))
+        self.assertIsNone(why(world, "r", 1, ONE))
+
     def test_errors(self):
         world = linked()
         for name in ("link", "few", "ann", "nothere", "all", "", None, 3):
@@ -263,6 +274,13 @@ class FollowsTest(PapersTestCase):
         first = (row(ANN, ONE), 0, (row(ANN, ONE),))
         self.assertEqual(follows(world, "reach", 2, row(ANN, ANN), (last, first)), 0)
         self.assertEqual(follows(world, "reach", 2, row(ANN, ANN), (first, last)), -1)
+
+    def test_members_that_the_pattern_does_not_fit(self):
+        world = world_of("flat")
+        steps = ((row(ANN, ONE), 0, (ANN, ONE)), (ANN, 1, (row(ANN, ONE),)))
+        self.assertEqual(follows(world, "flat", 2, ANN, steps), -1)
+        for member in (ANN, row(ANN, ONE)):
+            self.assertEqual(follows(world, "flat", 2, ANN, steps + ((member, 1, (ANN,)),)), 2)
 
     def test_long_papers(self):
         world = world_of("flat")

@@ -226,6 +226,13 @@ class AlikeTest(StretchesTestCase):
         self.assertEqual(alike(given, other, most=3), (0, "x"))
         self.assertIsNone(alike(given, program("x = {{{}}}", "y = {[{}], [{{}}]}"), most=2))
 
+    def test_most_that_is_not_told(self):
+        given = program("while (count(y) < 100):", "  y |= {[x]}", "  x = {x}")
+        self.assertEqual(alike(given, program("while (count(y) < 60):", "  y |= {[x]}", "  x = {x}")), None)
+        self.assertEqual(alike(given, program("while (count(y) < 59):", "  y |= {[x]}", "  x = {x}")), (0, "x"))
+        self.assertEqual(alike(given, program("while (count(y) < 61):", "  y |= {[x]}", "  x = {x}"), most=61), None)
+        self.assertIsNone(alike(given, program("y = {[{}]}", "x = {{}}"), most=1))
+
     def test_how_the_runs_end_is_not_compared(self):
         self.assertIsNone(alike(program("while true:", "  pass"), Program(("ann",))))
 

@@ -539,6 +539,14 @@ class KnowTest(WorldTestCase):
         self.assertEqual(form(world["y"]).depends, ())
         self.assertRaisesJust("TooMany", 700 + 3, world["y"], 2)
 
+    def test_rules_that_read_no_family(self):
+        world = World()
+        world.rule("r", clauses("{[u] for u in all}", "{u for u in all if (count(all) == 3)}", known=()))
+        before = world["r"]
+        world.know("ann")
+        self.assertEqual(world["r"], before.at_known("ann"))
+        self.assertEqual(world["r"], family("({[u] for u in all} | {u for u in all if (count(all) == 3)})", "ann"))
+
     def test_what_was_at_stock_0_is_gone(self):
         world = World()
         world.do(program("x = {u for u in {'a'} if (count(all) == 0)}", known="known"))
@@ -880,7 +888,8 @@ class PagesTest(WorldTestCase):
                 (3, "guard g"), (3, "guard g\nknow bob"), (4, "guard g\n  x before y"), (4, "guard g\n  x before y\nknow bob"), (3, "guard g\n  all"),
                 (4, "guard g\n  true\n  true"), (4, "guard g\n  true\n  x before y"), (3, "guard g\n  x before"), (3, "guard g\n  x before y z"),
                 (3, "guard g\n  x  before y"), (3, "guard g\n  X before y"), (4, "guard g\n  x before y\n  y after x"), (4, "guard all\n  true\n  true"),
-                (3, "guard all"), (4, "guard all\n  if before in"), (3, "guard g\n  abcdefghijklm before y")):
+                (3, "guard all"), (4, "guard all\n  if before in"), (2, "foo 5\n  x"), (2, "know 5\n  x"), (2, "do 5\n  x"), (2, "drop\n  x"),
+                (5, "guard g\n  x before y\n  true\n  true"), (6, "guard g\n  x before y\n  z before y\n  true\n  (x == y)"), (3, "guard g\n  abcdefghijklm before y")):
             with self.subTest(text):
                 self.assertBadPage(line, "known ann\n" + text)
                 self.assertBadPage(line + 1, "known ann\nallow 9\n" + text)
