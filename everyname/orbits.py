@@ -6,8 +6,8 @@ members are what it becomes when different others that are not around take the p
 
 from everyname.rows import row_sum, trimmed
 from everyname.shapes import (Shape, are_apart, at_least, check_apart, joined_needs, key_of, known_value, listed_value,
-                              most_own, needs_of, orbit, orbit_row, own_many, part_text, placed, row_parts, slot_shape,
-                              turns_of)
+                              most_alike, most_own, needs_of, orbit, orbit_row, own_many, part_text, placed, row_parts,
+                              slot_shape, turns_of)
 
 
 class Members:
@@ -278,18 +278,18 @@ def least_labelled(members):
     return {text: found[text] for text in least}, orders
 
 
-def set_needs(members, table):
-    """Return the needs of a set with these members, whose labelled orbits the table has."""
+def set_needs(members, table, turns):
+    """Return the needs of a set with these members and turns, whose labelled orbits the table has."""
     own = max([int(own_many(labels)) for _, labels in table.values()], default=0)
     outer, inner = members.needs
-    each = {pair: True for pair in outer + inner}
-    return (((len(members.around), own),), tuple(each))
+    each = {triple: True for triple in outer + inner}
+    return (((len(members.around), own, most_alike(turns)),), tuple(each))
 
 
 def plain_set(members):
     """Return the set with these members, on which no slots stand."""
     key = "{0; " + ", ".join(sorted([str(shape.key) for shape, _ in members.orbits.values()])) + "}"
-    needs = set_needs(members, {})
+    needs = set_needs(members, {}, ((),))
     return (Shape("set", key, ((),), members.orbits, needs, members.needs), ())
 
 
@@ -301,6 +301,6 @@ def set_value(members):
     table, orders = least_labelled(members)
     key = "{" + str(len(members.around)) + "; " + ", ".join(table) + "}"
     parts = {key_of(part): part for part in table.values()}
-    needs = set_needs(members, table)
-    shape = Shape("set", key, turns_of(orders), parts, needs, members.needs)
+    turns = turns_of(orders)
+    shape = Shape("set", key, turns, parts, set_needs(members, table, turns), members.needs)
     return placed(shape, orders[0])

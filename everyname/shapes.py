@@ -136,16 +136,16 @@ def joined_needs(several):
     """Return several needs as one.
 
     Needs are two tuples: one for sets that are compared with each other, one for all sets inside these.
-    Each has a pair for each set: on how many others it depends, and how many own slots its orbits have
-    at most.
+    Each has a triple for each set: on how many others it depends, how many own slots its orbits have at
+    most, and how many of the others at most may be exchanged with each other.
     """
     outer = {}
     inner = {}
     for needs in {needs: True for needs in several}:
-        for pair in needs[0]:
-            outer[pair] = True
-        for pair in needs[1]:
-            inner[pair] = True
+        for triple in needs[0]:
+            outer[triple] = True
+        for triple in needs[1]:
+            inner[triple] = True
     return (tuple(outer), tuple(inner))
 
 
@@ -154,34 +154,54 @@ def needs_of(values):
     return joined_needs([shape.needs for shape, _ in values])
 
 
-def enough_for(many, own, other, further):
-    """Return a number of others that is enough for telling two sets apart by their keys.
+def enough_for(triple, other):
+    """Return a number of others that is enough for telling two sets with these needs apart by their keys.
 
-    The sets depend on many and other others, S and Z, and their orbits have at most own and further own
-    slots. The members are told apart, too, which is asked for by itself. If the keys differ, so do the
-    orbits around the others in S and Z, and an orbit has members where there are enough others for its own
-    slots. That is one bound. The other one looks at S and Z. A set really depends on each other in S, that is,
-    changes if this one is exchanged with one that is not in S, if there are enough others for the orbits around
-    S and one more. If there is an other in neither, sets that depend on different others differ.
+    The members are told apart, too, which is asked for by itself. Let the keys of sets A and B differ, and let
+    them depend on the others in S and Z. Then their orbits around S and Z differ, and an orbit has members if
+    there are enough others for its own slots. That is one bound; the other one looks at S and Z. If there are
+    enough others for the orbits around S and one more, A changes if one of S is exchanged with one that is
+    not in S, and two of S may be exchanged only if the key says so. So if A and B are equal, but S and Z are not,
+    then each other is in S or Z, and those in one alone may be exchanged with each other in A and in B.
     """
+    many, own, alike = triple
+    another, further, others_alike = other
     if own == 0 and further == 0:
         return 0
-    both = many + other
-    each = 1 + max(int(both), int(many + own), int(other + further))
-    joint = both + max(int(own), int(further))
-    return min(int(each), int(joint))
+    apart = min(int(another + alike), int(many + others_alike))
+    each = 1 + max(int(apart), int(many + own), int(another + further))
+    return min(int(each), int(many + another) + max(int(own), int(further)))
 
 
 def enough(needs):
     """Return a number of others that is enough for telling values with these needs apart by their keys."""
     most = 0
-    for pairs in needs:
-        for many, own in pairs:
-            for other, further in pairs:
-                bound = enough_for(many, own, other, further)
+    for triples in needs:
+        for triple in triples:
+            for other in triples:
+                bound = enough_for(triple, other)
                 if bound > most:
                     most = bound
     return most
+
+
+def most_alike(turns):
+    """Return how many labels at most may be exchanged with each other in a shape with these turns."""
+    many = len(turns[0])
+    if len(turns) == 1:
+        return 1 if many > 0 else 0
+    table = {turn: True for turn in turns}
+    most = 1
+    for k in range(many):
+        alike = [j for j in range(many) if j == k or exchange(many, j, k) in table]
+        if len(alike) > most:
+            most = len(alike)
+    return most
+
+
+def exchange(many, j, k):
+    """Return the order of so many labels in which two of them are exchanged."""
+    return tuple([k if label == j else j if label == k else label for label in range(many)])
 
 
 def are_apart(stock, needs):

@@ -310,6 +310,24 @@ class ComparisonsTest(FamilyTestCase):
             self.assertTrue(found != thing)
 
 
+class CoincidencesTest(FamilyTestCase):
+    """Sets of a few and of all but a few names, which are equal at single small n."""
+    parts = (
+        "{u}", "(all - {u})", "{u, v}", "(all - {u, v})", "{{u}, (all - {v})}", "{(all - {u}), (all - {v})}", "{{u}, {v}}", "{[u, v], [v, u]}",
+        "{[a, b] for a in (all - {u, v}) for b in (all - {u, v}) if not (a == b)}", "{{a, b} for a in (all - {u, v}) for b in (all - {u, v})}",
+        "{{a, u} for a in all}", "{{a, b} for a in (all - {u, v}) for b in {u, v}}", "{(all - {a}) for a in {u, v}}", "{{u, v}, (all - {u, v})}",
+        "{(all - {a}) for a in (all - {u, v})}", "{{u}, (all - {u})}", "{((all - {u, v}) - {a}) for a in all}", "((all - {u, v}) | {(all - {u, v})})")
+
+    def test_counts(self):
+        for left, right in itertools.product(self.parts, repeat=2):
+            x, y = (f"{{{part} for u in all for v in all if not (u == v)}}" for part in (left, right))
+            a, b = family(x), family(y)
+            both, either, pair = (a & b).sizes, (a | b).sizes, family(f"{{{x}, {y}}}").sizes
+            for n in range(6):
+                one, other = (plain.members(plain_value(text, (), n)) for text in (x, y))
+                self.assertEqual((both(n), either(n), pair(n)), (len(one & other), len(one | other), 1 if one == other else 2), (x, y, n))
+
+
 class OnlyTest(FamilyTestCase):
     """Point [63]."""
 
