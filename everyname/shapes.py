@@ -14,6 +14,7 @@ other that is not among the slots of the set (see everyname/orbits.py).
 
 from math import factorial
 
+from everyname.digits import decimal
 from everyname.rows import row_ahead
 
 
@@ -105,7 +106,7 @@ def mark_value(word):
 
 def listed_value(k):
     """Return the value of the listed other k."""
-    return leaf("other", k, f"#{k}")
+    return leaf("other", k, "#" + decimal(k))
 
 
 def slot_shape():

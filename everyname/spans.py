@@ -4,6 +4,7 @@ A stretch is a pair (low, high) for all n from low to high; high is None if ther
 """
 
 from everyname.checks import check_from, check_whole, is_whole
+from everyname.digits import decimal
 from everyname.errors import BadValue, EmptySpan
 
 
@@ -92,8 +93,8 @@ def moved(stretches, k):
 def stretch_text(low, high):
     """Return the text of one stretch."""
     if high is None:
-        return f"{low}-"
-    return str(low) if low == high else f"{low}-{high}"
+        return f"{decimal(low)}-"
+    return decimal(low) if low == high else f"{decimal(low)}-{decimal(high)}"
 
 
 class Span:

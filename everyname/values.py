@@ -6,11 +6,10 @@ indexes from start to end - 1, which are greater than its own.
 """
 
 from everyname.checks import is_whole
+from everyname.digits import decimal
 from everyname.errors import BadValue
 from everyname.trees import MOST_PARTS
 from everyname.words import is_free_word, is_word
-
-DIGITS_AT_ONCE = 60
 
 
 def is_node(value):
@@ -41,16 +40,6 @@ def nodes_of(value):
         found.append((inner, len(waiting), len(waiting) + len(parts)))
         waiting.extend(parts)
     return found
-
-
-def decimal(k):
-    """Return the digits of an integer that is 0 or greater. Python alone writes no more than 4300 of them."""
-    digits = ""
-    unit = 10 ** 60
-    while k >= unit:
-        digits = str(k % unit).zfill(DIGITS_AT_ONCE) + digits
-        k = k // unit
-    return str(k) + digits
 
 
 def node_text(value, texts):
