@@ -45,7 +45,7 @@ def weight_row(value):
     while waiting:
         shape = waiting[-1]
         missing = [inner for inner in part_shapes(shape) if inner.key not in found]
-        waiting.extend(missing)
+        waiting.extend(list(missing))
         if not missing:
             found[shape.key] = size_row(shape, found)
             waiting.pop()

@@ -58,7 +58,7 @@ def derivation(stock, name, clauses, values, rounds, value):
             plans[key] = place_of(stock, name, clauses, values, top, totals[turn_of(rounds, top) - 1])
         index, members, own = plans[key]
         missing = [member for member in own if key_of(member) not in steps]
-        waiting.extend(missing)
+        waiting.extend(list(missing))
         if not missing:
             steps[key] = (top, index, members)
             waiting.pop()

@@ -49,11 +49,8 @@ class Form:
     @property
     def sorts(self):
         """The pairs (own slots, renumberings in the group) of the items, ascending."""
-        found = []
         pairs = [(len(group[0]), len(group)) for group in self.groups]
-        for pair in sorted_rows(pairs):
-            found = found + [pair] * len([True for other in pairs if other == pair])
-        return tuple(found)
+        return tuple([pair for pair in sorted_rows(pairs) for other in pairs if other == pair])
 
     @property
     def size(self):

@@ -23,7 +23,7 @@ def listed_at(n, value):
         top = waiting[-1]
         parts = parts_listed(n, top)
         missing = [part for part in parts if key_of(part) not in found]
-        waiting.extend(missing)
+        waiting.extend(list(missing))
         if not missing:
             found[key_of(top)] = rebuilt(top, [found[key_of(part)] for part in parts])
             waiting.pop()

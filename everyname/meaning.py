@@ -123,7 +123,7 @@ def passed_on(stock, pattern, source, bound, places):
     for values, around in places:
         if moving or members is None:
             members = tree_members(stock, source, values)
-        found.extend(bindings(stock, pattern, members, values, around))
+        found.extend(list(bindings(stock, pattern, members, values, around)))
     return found
 
 

@@ -47,8 +47,8 @@ def named(old, new, value, slot, word):
     while len(places) < len(waiting):
         around, parts = named_parts(old, waiting[len(places)], slot)
         places.append((around, len(waiting), len(waiting) + len(parts)))
-        waiting.extend(parts)
-    found = [()] * len(waiting)
+        waiting.extend(list(parts))
+    found = [() for _ in waiting]
     for at in range(len(waiting) - 1, -1, -1):
         around, start, end = places[at]
         found[at] = named_told(old, new, waiting[at], slot, word, around, found[start:end])
@@ -88,8 +88,8 @@ def unnamed(wider, value, word, slot):
     while len(places) < len(waiting):
         parts = unnamed_parts(waiting[len(places)], slot)
         places.append((len(waiting), len(waiting) + len(parts)))
-        waiting.extend(parts)
-    found = [()] * len(waiting)
+        waiting.extend(list(parts))
+    found = [() for _ in waiting]
     for at in range(len(waiting) - 1, -1, -1):
         start, end = places[at]
         found[at] = unnamed_told(wider, waiting[at], word, slot, found[start:end])

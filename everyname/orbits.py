@@ -105,7 +105,7 @@ def spread(stock, members, around):
     most = most_own(stock, around, max([int(own_many(slots)) for _, slots in values], default=0))
     found = []
     for value in values:
-        found.extend(spread_orbits(value, added, around, most))
+        found.extend(list(spread_orbits(value, added, around, most)))
     return Members(around, {key_of(value): value for value in found}, members.needs)
 
 
@@ -114,7 +114,7 @@ def spread_freely(members, around):
     added = [slot for slot in around if slot not in members.around]
     found = []
     for value in members.orbits.values():
-        found.extend(spread_orbits(value, added, around, own_many(value[1])))
+        found.extend(list(spread_orbits(value, added, around, own_many(value[1]))))
     return Members(around, {key_of(value): value for value in found}, members.needs)
 
 

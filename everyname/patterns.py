@@ -47,8 +47,8 @@ def pattern_of(value, many):
         _, inner, around = waiting[len(places)]
         parts = pattern_parts(inner, around)
         places.append((len(waiting), len(waiting) + len(parts)))
-        waiting.extend(parts)
-    found = [()] * len(waiting)
+        waiting.extend(list(parts))
+    found = [() for _ in waiting]
     for at in range(len(waiting) - 1, -1, -1):
         start, end = places[at]
         found[at] = (waiting[at][0], pattern_told(waiting[at][1], found[start:end]))
@@ -117,8 +117,8 @@ def reading(stock, pattern, names):
         inner, assigned = waiting[len(places)]
         parts = reading_parts(stock, inner, assigned)
         places.append((len(waiting), len(waiting) + len(parts)))
-        waiting.extend(parts)
-    found = [()] * len(waiting)
+        waiting.extend(list(parts))
+    found = [() for _ in waiting]
     for at in range(len(waiting) - 1, -1, -1):
         start, end = places[at]
         found[at] = reading_told(stock, waiting[at][0], waiting[at][1], found[start:end])

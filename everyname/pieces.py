@@ -53,7 +53,7 @@ def piece_signs(pieces):
     """Return the triples (low, high, sign) of all pieces, from 0 on; the last high is None."""
     found = []
     for low, high, row in stretched(pieces):
-        found.extend(signs_between(row, low, high))
+        found.extend(list(signs_between(row, low, high)))
     return found
 
 

@@ -34,7 +34,7 @@ def node_value(stock, value, parts):
 
 def value_of_nodes(stock, nodes):
     """Return the value of a shown value with these nodes (see everyname/values.py)."""
-    found = [()] * len(nodes)
+    found = [() for _ in nodes]
     for at in range(len(nodes) - 1, -1, -1):
         value, start, end = nodes[at]
         found[at] = node_value(stock, value, found[start:end])

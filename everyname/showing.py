@@ -45,8 +45,8 @@ def shown(n, value):
     while len(places) < len(waiting):
         parts = parts_listed(n, waiting[len(places)])
         places.append((len(waiting), len(waiting) + len(parts)))
-        waiting.extend(parts)
-    found = [()] * len(waiting)
+        waiting.extend(list(parts))
+    found = [() for _ in waiting]
     for at in range(len(waiting) - 1, -1, -1):
         start, end = places[at]
         found[at] = told(waiting[at], found[start:end])

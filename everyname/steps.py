@@ -41,9 +41,9 @@ def steps_of(rows, start=0):
         second = () if row[0] == "while" else steps_of(row[3], behind)
         target = at if row[0] == "while" else behind + len(second)
         found.append((row[0], row[1], behind))
-        found.extend(inner)
+        found.extend(list(inner))
         found.append(("go", target))
-        found.extend(second)
+        found.extend(list(second))
     return tuple(found)
 
 

@@ -72,10 +72,10 @@ def statement_lines(rows, indent=""):
     for row in rows:
         found.append(indent + head_text(row))
         if row[0] in ("if", "while"):
-            found.extend(statement_lines(row[2], indent + "  ") or [indent + "  pass"])
+            found.extend(list(statement_lines(row[2], indent + "  ") or [indent + "  pass"]))
         if row[0] == "if" and row[3]:
             found.append(indent + "else:")
-            found.extend(statement_lines(row[3], indent + "  "))
+            found.extend(list(statement_lines(row[3], indent + "  ")))
     return found
 
 

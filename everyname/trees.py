@@ -219,7 +219,7 @@ def trees_in(rows):
     for row in rows:
         found.append(row[1] if row[0] in ("if", "while") else row[2])
         for inner in inner_rows(row):
-            found.extend(trees_in(inner))
+            found.extend(list(trees_in(inner)))
     return found
 
 

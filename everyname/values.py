@@ -38,7 +38,7 @@ def nodes_of(value):
             return None
         parts = inner[1] if inner[0] in ("row", "set") else ()
         found.append((inner, len(waiting), len(waiting) + len(parts)))
-        waiting.extend(parts)
+        waiting.extend(list(parts))
     return found
 
 
@@ -57,7 +57,7 @@ def node_text(value, texts):
 
 def texts_of(nodes):
     """Return the texts of nodes in their order; None if a set has two members that are equal."""
-    texts = [""] * len(nodes)
+    texts = ["" for _ in nodes]
     for at in range(len(nodes) - 1, -1, -1):
         value, start, end = nodes[at]
         inner = texts[start:end]
@@ -124,7 +124,7 @@ def renumbered(value, numbers):
         raise BadValue(numbers)
     if any([node[0][0] == "other" and node[0][1] > len(numbers) for node in nodes]):
         raise BadValue(value)
-    found = [()] * len(nodes)
+    found = [() for _ in nodes]
     for at in range(len(nodes) - 1, -1, -1):
         inner, start, end = nodes[at]
         if inner[0] == "other":

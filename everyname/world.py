@@ -189,7 +189,7 @@ class World:
         """The text of all steps."""
         lines = [known_line(self._first.known)]
         for step, _ in self._steps:
-            lines.extend(step)
+            lines.extend(list(step))
         return "\n".join(lines)
 
     def do(self, program):

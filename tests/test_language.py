@@ -68,14 +68,17 @@ IN_PLACE = {f"__{word}__" for word in BINARY if word[0] == "i"} | {"__setitem__"
 
 
 def root(node):
-    """The name that an item, an attribute or a call of a method begins with."""
+    """The name that an item, an attribute or a call of a method begins with, and the number of steps from it."""
+    steps = 0
     while isinstance(node, (ast.Subscript, ast.Attribute, ast.Call)):
-        node = node.func if isinstance(node, ast.Call) else node.value
-    return node.id if isinstance(node, ast.Name) else None
+        steps += isinstance(node, (ast.Subscript, ast.Call))
+        node = node.func.value if isinstance(node, ast.Call) and isinstance(node.func, ast.Attribute) else (
+            node.func if isinstance(node, ast.Call) else node.value)
+    return (node.id if isinstance(node, ast.Name) else None), steps
 
 
 def changed_names(function):
-    """The names of what a function changes, with the lines where it does."""
+    """The names of what a function changes, with the lines where it does, and whether it is an item's item."""
     for node in ast.walk(function):
         targets = []
         if isinstance(node, ast.Assign):
@@ -86,18 +89,81 @@ def changed_names(function):
             targets = node.targets
         for target in targets:
             if isinstance(target, (ast.Subscript, ast.Attribute)) and not isinstance(target.ctx, ast.Load):
-                yield root(target), node.lineno
+                name, steps = root(target)
+                yield name, node.lineno, steps > 1
         if isinstance(node, ast.Call) and isinstance(node.func, ast.Attribute) and node.func.attr in CHANGING:
-            yield root(node.func.value), node.lineno
+            name, steps = root(node.func.value)
+            yield name, node.lineno, steps > 0
 
 
 def is_new(node):
-    """Tell whether an expression surely gives a list, dict, set or own object that nothing else has."""
+    """Tell whether an expression surely gives a list, dict, set or own object that nothing else has.
+
+    A product gives none, and a sum only if both sides do: classes of the package have their own `*` and `+`.
+    """
     if isinstance(node, ast.BinOp):
-        return is_new(node.left) and (is_new(node.right) or isinstance(node.op, ast.Mult))
+        return isinstance(node.op, ast.Add) and is_new(node.left) and is_new(node.right)
     if isinstance(node, ast.Call):
-        return ast.unparse(node.func) in ("list", "dict", "set", "sorted", "defaultdict", "Family", "World")
+        return ast.unparse(node.func) in ("list", "dict", "set", "sorted", "Family", "World")
     return isinstance(node, (ast.List, ast.Dict, ast.ListComp, ast.DictComp, ast.Set, ast.SetComp))
+
+
+def has_new_items(node):
+    """Tell whether an expression surely gives a list or dict all of whose items are new."""
+    if isinstance(node, ast.ListComp):
+        return is_new(node.elt)
+    if isinstance(node, ast.DictComp):
+        return is_new(node.value)
+    return isinstance(node, (ast.List, ast.Dict)) and all(map(is_new, getattr(node, "elts", None) or getattr(node, "values", ())))
+
+
+def worths(function, name):
+    """What a function assigns to a variable."""
+    return [node.value for node in ast.walk(function) if isinstance(node, (ast.Assign, ast.AugAssign))
+            for target in getattr(node, "targets", None) or [node.target]
+            if name in [part.id for part in ast.walk(target) if isinstance(part, ast.Name)]
+            and not isinstance(target, (ast.Subscript, ast.Attribute))]
+
+
+def put_inside(function, name):
+    """What a function makes an item of a variable's list or dict: by an assignment or by setdefault."""
+    for node in ast.walk(function):
+        if isinstance(node, ast.Assign):
+            for target in node.targets:
+                if isinstance(target, ast.Subscript) and root(target) == (name, 1):
+                    yield node.value
+        elif isinstance(node, ast.Call) and isinstance(node.func, ast.Attribute) and root(node.func.value) == (name, 0):
+            if node.func.attr in ("setdefault", "append", "insert", "extend", "update"):
+                yield node.args[-1]
+
+
+def changed_but_not_made(function):
+    """The lines at which a function changes what it did not surely make itself (L5 Operators, L28)."""
+    found = []
+    for name, line, is_inner in changed_names(function):
+        made = worths(function, name)
+        fine = bool(made) and all(map(is_new, made))
+        if is_inner:
+            fine = fine and all(map(has_new_items, made)) and all(map(is_new, put_inside(function, name)))
+        if not fine:
+            found.append(line)
+    return found
+
+
+def extended_by_others(tree):
+    """The lines at which extend, update, += or |= get what is not surely another thing than what they change.
+
+    Kept more strictly than L5 Iteration and L23 ask for: they get what is made on the spot, or a literal.
+    """
+    found = []
+    for node in ast.walk(tree):
+        given = []
+        if isinstance(node, ast.Call) and isinstance(node.func, ast.Attribute) and node.func.attr in ("extend", "update"):
+            given = node.args
+        elif isinstance(node, ast.AugAssign):
+            given = [node.value]
+        found.extend(node.lineno for part in given if not is_new(part) and not isinstance(part, ast.Constant))
+    return found
 
 
 WALKS = ("list", "tuple", "dict", "sorted", "sum", "any", "all", "enumerate", "zip", "bytes", "min", "max")
@@ -271,16 +337,40 @@ class LanguageTest(unittest.TestCase):
         self.assertEqual(reached & CHANGING_METHODS, set())
 
     def test_functions_change_what_they_made_alone(self):
-        """L5 Operators: what operators and properties run changes no other thing (here: little else does)."""
+        """L5 Operators, L28: what operators and properties run changes no other thing (here: little else does)."""
         for file, function in nodes(ast.FunctionDef):
-            if function.name in IN_PLACE | CHANGING_METHODS:
-                continue
-            for name, line in changed_names(function):
-                worths = [node.value for node in ast.walk(function) if isinstance(node, (ast.Assign, ast.AugAssign))
-                          for target in getattr(node, "targets", None) or [node.target]
-                          if name in [part.id for part in ast.walk(target) if isinstance(part, ast.Name)]
-                          and not isinstance(target, (ast.Subscript, ast.Attribute))]
-                self.assertTrue(worths and all(map(is_new, worths)), (file, line, name))
+            if function.name not in IN_PLACE | CHANGING_METHODS:
+                self.assertEqual(changed_but_not_made(function), [], file)
+
+    def test_what_is_changed_but_not_made_is_found(self):
+        for text in ("found = [()] * len(xs)\nfound[at] = 1", "found = len(xs) * [()]\nfound[at] = 1", "xs[0] = 1", "del xs[0]",
+                     "found = xs\nfound.append(1)", "found = [] + xs\nfound.append(1)", "found = [0] * 3 + [1]\nfound[0] = 1",
+                     "found = [] if xs else [1]\nfound.pop()", "found = []\nfound = xs\nfound.append(1)", "xs.n = 1",
+                     "found = [x for x in xs]\nfound[0].append(1)", "found = {}\nfound[0] = xs\nfound[0][1] = 2",
+                     "found = {}\nfound.setdefault(0, xs).append(1)", "found = []\nfound.append(xs)\nfound[0].append(1)",
+                     "found = [[]] * 3\nfound[0].append(1)", "a, b = [], xs\nb.append(1)", "xs[0] += 1",
+                     "for x in xs:\n    x.append(1)", "found = tuple(xs)\nfound.n = 1"):
+            function = ast.parse("def f(xs):\n    " + text.replace("\n", "\n    ")).body[0]
+            self.assertEqual(len(changed_but_not_made(function)), 1, text)
+        for text in ("found = [() for _ in xs]\nfound[at] = 1", "found = []\nfound.append(xs)", "found = list(xs)\nfound[0] = 1",
+                     "found = [0] + list(xs)\nfound.pop()", "found = sorted(xs)\ndel found[0]", "found = {}\nfound[0] = xs",
+                     "found = [[] for x in xs]\nfound[0].append(1)", "found = {}\nfound.setdefault(0, []).append(1)",
+                     "found = {}\nfound[0] = []\nfound[0].append(1)", "world = World(xs)\nworld.n = 1", "found = xs + [1]"):
+            function = ast.parse("def f(xs):\n    " + text.replace("\n", "\n    ")).body[0]
+            self.assertEqual(changed_but_not_made(function), [], text)
+
+    def test_what_lists_are_extended_by(self):
+        """L5 Iteration, L23: extend, update, += and |= do not get what they change, nor what was taken out of it."""
+        for file in FILES:
+            self.assertEqual(extended_by_others(ast.parse(file.read_text())), [], file)
+
+    def test_what_lists_are_extended_by_is_found(self):
+        for text in ("waiting.extend(parts)", "waiting.extend(waiting[0])", "xs.extend(xs)", "d.update(d)", "xs += ys", "d |= e",
+                     "xs.extend(parts_of(xs[0]))", "xs.extend(ys or [1])", "xs.extend((*xs, 1))", "box.rows.extend(box.rows)"):
+            self.assertEqual(len(extended_by_others(ast.parse(text))), 1, text)
+        for text in ("waiting.extend(list(parts))", "xs.extend([x for x in xs])", "xs.extend([1, 2])", "d.update(dict(e))",
+                     "k += 1", "text += 'a'", "xs += list(ys)", "xs = xs + ys"):
+            self.assertEqual(extended_by_others(ast.parse(text)), [], text)
 
     def test_functions_call_nothing_that_they_are_passed(self):
         """L5 Operators"""
