@@ -137,12 +137,18 @@ def put_inside(function, name):
                 yield node.args[-1]
 
 
+def passed_names(function):
+    """The parameters of a function and the variables of its loops and comprehensions."""
+    targets = [node.target for node in ast.walk(function) if isinstance(node, (ast.For, ast.comprehension))]
+    return {name for part in [function.args] + targets for name in bound_names(part)}
+
+
 def changed_but_not_made(function):
     """The lines at which a function changes what it did not surely make itself (L5 Operators, L28)."""
     found = []
     for name, line, is_inner in changed_names(function):
         made = worths(function, name)
-        fine = bool(made) and all(map(is_new, made))
+        fine = bool(made) and all(map(is_new, made)) and name not in passed_names(function)
         if is_inner:
             fine = fine and all(map(has_new_items, made)) and all(map(is_new, put_inside(function, name)))
         if not fine:
@@ -349,7 +355,8 @@ class LanguageTest(unittest.TestCase):
                      "found = [x for x in xs]\nfound[0].append(1)", "found = {}\nfound[0] = xs\nfound[0][1] = 2",
                      "found = {}\nfound.setdefault(0, xs).append(1)", "found = []\nfound.append(xs)\nfound[0].append(1)",
                      "found = [[]] * 3\nfound[0].append(1)", "a, b = [], xs\nb.append(1)", "xs[0] += 1",
-                     "for x in xs:\n    x.append(1)", "found = tuple(xs)\nfound.n = 1"):
+                     "for x in xs:\n    x.append(1)", "found = tuple(xs)\nfound.n = 1", "xs = []\nxs.append(1)",
+                     "found = []\nfor found in xs:\n    found.append(1)"):
             function = ast.parse("def f(xs):\n    " + text.replace("\n", "\n    ")).body[0]
             self.assertEqual(len(changed_but_not_made(function)), 1, text)
         for text in ("found = [() for _ in xs]\nfound[at] = 1", "found = []\nfound.append(xs)", "found = list(xs)\nfound[0] = 1",
