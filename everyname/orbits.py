@@ -6,8 +6,9 @@ members are what it becomes when different others that are not around take the p
 
 from everyname.rows import row_sum, trimmed
 from everyname.shapes import (Shape, are_apart, at_least, check_apart, joined_needs, key_of, known_value, listed_value,
-                              most_alike, most_own, needs_of, orbit, orbit_row, own_many, part_text, placed, row_parts,
-                              slot_shape, turns_of)
+                              most_alike, most_own, needs_of, orbit, orbit_row, own_many, placed, row_parts, slot_shape,
+                              turns_of)
+from everyname.spelling import part_text, spelled
 
 
 class Members:
@@ -288,9 +289,10 @@ def set_needs(members, table, turns):
 
 def plain_set(members):
     """Return the set with these members, on which no slots stand."""
-    key = "{0; " + ", ".join(sorted([str(shape.key) for shape, _ in members.orbits.values()])) + "}"
+    table = {shape.key: (shape, ()) for shape, _ in members.orbits.values()}
+    key, lines = spelled("{0; ", [table[text] for text in sorted([str(text) for text in table])], "}")
     needs = set_needs(members, {}, ((),))
-    return (Shape("set", key, ((),), members.orbits, needs, members.needs), ())
+    return (Shape("set", key, ((),), members.orbits, needs, members.needs, lines), ())
 
 
 def set_value(members):
@@ -299,8 +301,8 @@ def set_value(members):
         return plain_set(members)
     members = least_around(members)
     table, orders = least_labelled(members)
-    key = "{" + str(len(members.around)) + "; " + ", ".join(table) + "}"
+    key, lines = spelled("{" + str(len(members.around)) + "; ", list(table.values()), "}")
     parts = {key_of(part): part for part in table.values()}
     turns = turns_of(orders)
-    shape = Shape("set", key, turns, parts, set_needs(members, table, turns), members.needs)
+    shape = Shape("set", key, turns, parts, set_needs(members, table, turns), members.needs, lines)
     return placed(shape, orders[0])

@@ -16,6 +16,7 @@ from math import factorial
 
 from everyname.digits import decimal
 from everyname.rows import row_ahead
+from everyname.spelling import spelled
 
 
 class Tight(ValueError):
@@ -77,16 +78,18 @@ class Shape:
 
     kind is "leaf" (a name or a mark; parts is what it is shown as), "slot" (any other), "row" (parts
     are its parts, with labels for slots) or "set" (parts are its orbits by their keys, with labels for
-    slots). needs are its needs, and inner those of the members of a set (see joined_needs).
+    slots). needs are its needs, and inner those of the members of a set (see joined_needs). lines are
+    those of its key, if it has any (see everyname/spelling.py).
     """
 
-    def __init__(self, kind, key, turns, parts, needs, inner):
+    def __init__(self, kind, key, turns, parts, needs, inner, lines=()):
         self.kind = kind
         self.key = key
         self.turns = turns
         self.parts = parts
         self.needs = needs
         self.inner = inner
+        self.lines = lines
 
 
 def leaf(kind, told, key):
@@ -123,14 +126,6 @@ def key_of(value):
     """Return the key of a value, the same for equal values only."""
     shape, slots = value
     return (shape.key, slots)
-
-
-def part_text(value):
-    """Return the text of a part of a greater shape."""
-    shape, labels = value
-    if not labels:
-        return shape.key
-    return shape.key + "(" + " ".join([str(label) for label in labels]) + ")"
 
 
 def joined_needs(several):
@@ -310,5 +305,5 @@ def row_value(values):
     for shape, slots in values:
         labels, orders = least_labels(shape, slots, orders)
         parts = parts + ((shape, labels),)
-    key = "[" + ", ".join([part_text(part) for part in parts]) + "]"
-    return placed(Shape("row", key, turns_of(orders), parts, needs_of(values), ((), ())), orders[0])
+    key, lines = spelled("[", parts, "]")
+    return placed(Shape("row", key, turns_of(orders), parts, needs_of(values), ((), ()), lines), orders[0])

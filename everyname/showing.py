@@ -40,17 +40,17 @@ def told(value, parts):
 
 def shown(n, value):
     """Return a value over n others as it is shown, however deep it is nested."""
+    found = {}
     waiting = [value]
-    places = []
-    while len(places) < len(waiting):
-        parts = parts_listed(n, waiting[len(places)])
-        places.append((len(waiting), len(waiting) + len(parts)))
-        waiting.extend(list(parts))
-    found = [() for _ in waiting]
-    for at in range(len(waiting) - 1, -1, -1):
-        start, end = places[at]
-        found[at] = told(waiting[at], found[start:end])
-    return found[0]
+    while waiting:
+        top = waiting[-1]
+        parts = parts_listed(n, top)
+        missing = [part for part in parts if key_of(part) not in found]
+        waiting.extend(list(missing))
+        if not missing:
+            found[key_of(top)] = told(top, [found[key_of(part)] for part in parts])
+            waiting.pop()
+    return found[key_of(value)]
 
 
 def shown_within(n, value, most):
