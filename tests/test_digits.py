@@ -55,6 +55,7 @@ class TextsTest(unittest.TestCase):
         self.assertEqual(str(Span.single(GREAT)), "1" + ZEROS)
         self.assertEqual(str(Span.since(GREAT)), "1" + ZEROS + "-")
         self.assertEqual(str(Span.until(GREAT)), "0-1" + ZEROS)
+        self.assertEqual(str(Span([(GREAT, GREAT + 7), (0, 0)])), "0, 1" + ZEROS + "-1" + "0" * 4999 + "7")
         self.assertEqual(str(~Span([(GREAT, GREAT + 4), (3, 9)])), "0-2, 10-" + "9" * 5000 + ", 1" + "0" * 4999 + "5-")
 
     def test_where(self):
