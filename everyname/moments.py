@@ -5,9 +5,10 @@ A rule is a pair (name, clauses) and a guard a triple (name, test, before).
 
 from everyname.checks import sorted_words
 from everyname.errors import BadName, Broken, OtherStock, Restless
-from everyname.outcomes import at_known_pieces, empty_pieces, outcome_regions, variable_pieces
+from everyname.outcomes import at_known_pieces, empty_pieces, variable_pieces
 from everyname.regions import joined, solved, span_of, together
 from everyname.shapes import key_of
+from everyname.steps import steps_of
 from everyname.trees import assigned_names, bound_names, free_names, state_names, trees_in
 
 
@@ -122,7 +123,7 @@ def executed_told(moment, rows):
     """Return the told families behind statements; raise Restless if they do not come to rest at some n."""
     names = sorted_words(state_names(rows))
     regions = together(tables_of(moment, names))
-    outcomes = outcome_regions(moment.known, regions, names, rows, moment.limit)
+    outcomes = solved(moment.known, regions, ("do", names, steps_of(rows), moment.limit))
     for low, _, _, outcome in outcomes:
         if outcome.end != "rests":
             raise Restless("", low, outcome.end)

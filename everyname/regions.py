@@ -9,7 +9,7 @@ gaps. Pieces are regions with one value in the place of the values.
 from everyname.listing import listed_at
 from everyname.shapes import Split, Tight, alike_stock, key_of, listed_stock
 from everyname.spans import Span
-from everyname.tasks import task_result
+from everyname.tasks import is_last, task_result
 
 
 def listed_region(n, values):
@@ -23,20 +23,27 @@ def whole_region():
 
 
 def solved(known, regions, task):
-    """Return the regions with what a task gives there in the place of the values, split where it has to be."""
+    """Return the regions with what a task gives there in the place of the values, split where it has to be.
+
+    The regions behind the first one with a last result (see is_last) are left out.
+    """
     waiting = [regions[k] for k in range(len(regions) - 1, -1, -1)]
     found = []
     while waiting:
         low, high, listed, values = waiting.pop()
         stock = listed_stock(known, low) if listed else alike_stock(known, low, high)
         try:
-            found.append((low, high, listed, task_result(stock, task, values)))
+            result = task_result(stock, task, values)
         except Split as seam:
             waiting.append((seam.at, high, listed, values))
             waiting.append((low, seam.at - 1, listed, values))
         except Tight:
             for n in range(high, low - 1, -1):
                 waiting.append(listed_region(n, values))
+        else:
+            found.append((low, high, listed, result))
+            if is_last(task, result):
+                return found
     return found
 
 

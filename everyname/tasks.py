@@ -50,6 +50,13 @@ def paper_result(stock, task, values):
     return turn_of(rounds, value) if tag == "turn" else derivation(stock, name, clauses, values, rounds, value)
 
 
+def is_last(task, result):
+    """Tell whether greater n are not asked for when a task has given this: a rule or a "do" does not come to rest."""
+    if task[0] == "rule":
+        return result is None
+    return task[0] == "do" and result.end != "rests"
+
+
 def task_result(stock, task, values):
     """Return what a task gives over a stock."""
     tag = task[0]
@@ -57,7 +64,7 @@ def task_result(stock, task, values):
         return tree_value(stock, task[1], values)
     if tag == "test":
         return test_holds(stock, task[1], values)
-    if tag == "run":
+    if tag in ("run", "do"):
         return executed(stock, task[1], task[2], task[3], values)
     if tag == "has":
         return has(stock, members_in(values["a"]), value_of_nodes(stock, task[1]))

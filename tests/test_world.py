@@ -8,7 +8,9 @@ from everyname.errors import Broken, EverynameError
 from everyname.families import Family
 from everyname.forms import form
 from everyname.programs import Program
+from everyname.regions import solved, value_pieces, whole_region
 from everyname.spans import Span
+from everyname.steps import steps_of
 from everyname.values import same_value
 from everyname.world import World
 from helpers import FAR, FARTHER, RaisingTestCase, check, family, program, tree
@@ -299,6 +301,25 @@ class RulesTest(WorldTestCase):
         self.assertRestless(world, "r", FAR, "many", world.rule, "r", late)
         once = clauses("{[] for u in {[]}}", "{[u] for u in r if (count(all) == 1" + "0" * 60 + ")}", known=())
         self.assertRestless(world, "r", FAR, "many", world.rule, "r", once)
+
+    def test_what_does_not_rest_is_not_followed_further(self):
+        """Where there is one name, each round adds one value; where there are more, far too many for sixty rounds."""
+        world = World()
+        world.do(program("y = {{u} for u in all}", known="known"))
+        self.assertRestless(world, "r", 1, "many", world.rule, "r", clauses("{u for u in all}", "{[u, v] for u in r for v in y}", known=()))
+        rows = ("x = all", "while not (x == {}):", "  x = {[u, v] for u in x for v in all}")
+        self.assertRestless(world, "", 1, "many", world.do, program(*rows, known="known"))
+        self.assertRestless(world, "", 1, "many", world.breaks, program(*rows, known="known"))
+        world.rule("r", clauses("{u for u in x}", "{[u, v] for u in r for v in y}", known=()))
+        self.assertRestless(world, "r", 1, "many", world.do, program("x = all", known="known"))
+        ann = World(("ann",))
+        self.assertRestless(ann, "", 0, "many", ann.do, program(*rows))
+        e = tree("{u for u in all if ((count(all) == 3) or (count(all) == 5))}")
+        regions = [(low, high, listed, {"x": value}) for low, high, listed, value in value_pieces((), whole_region(), e)]
+        for task in (("rule", "r", clauses("{u for u in x}", "{[u] for u in r}", known=()), 5),
+                     ("do", ("x",), steps_of(program("while not (x == {}):", "  x = x").statements), 5)):
+            found = solved((), regions, task)
+            self.assertEqual([(low, high) for low, high, _, _ in found], [(0, 2), (3, 3)])
 
     def test_just_allowed_rounds(self):
         world = World()
