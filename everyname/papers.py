@@ -5,7 +5,7 @@ A step is a tuple (value, clause, members): a shown value, the index of a clause
 
 from everyname.checks import check_same_stock
 from everyname.errors import BadName
-from everyname.moments import family_pieces, names_read, tables_of
+from everyname.moments import names_read, tables_of
 from everyname.reckoning import checked_nodes
 from everyname.regions import region_at, solved, span_of, together
 from everyname.showing import shown

@@ -5,7 +5,7 @@ member that the round before gave: so each source that is the rule's own name is
 """
 
 from everyname.meaning import gather_places, tree_members, tree_value
-from everyname.orbits import Members, collected, is_same, set_value
+from everyname.orbits import Members, is_same, set_value
 from everyname.shapes import Shape, check_apart, joined_needs, key_of, orbit, row_value
 
 OWN = ("0", "1", "2")

@@ -251,6 +251,12 @@ class LanguageTest(unittest.TestCase):
                     self.assertIn(module, own)
                     self.assertIn(alias.name, set(bound_names(ast.parse((PACKAGE / f"{module}.py").read_text()))))
 
+    def test_imports_are_used(self):
+        for file in FILES:
+            tree = ast.parse(file.read_text())
+            imported = {alias.name for node in tree.body if isinstance(node, ast.ImportFrom) for alias in node.names}
+            self.assertEqual(imported - {node.id for node in ast.walk(tree) if isinstance(node, ast.Name)}, set(), file)
+
     def test_no_circular_imports(self):
         """L16"""
         needs = {file.stem: set() for file in FILES}
